@@ -1,0 +1,1 @@
+"""Copyrates: opinions copied by rates. Import from the modules of this package."""

@@ -1,0 +1,43 @@
+"""What kind a value is, and the checks of plain arguments."""
+
+from copyrates.errors import BadNumber, BadPlace, HasCalls, TooMany
+
+
+def is_whole(value):
+    """Tell whether the value is a whole number; True and False are none."""
+    return isinstance(value, int) and not isinstance(value, bool)
+
+
+def is_between(value, low, high):
+    """Tell whether the value is a whole number from low to high."""
+    return is_whole(value) and low <= value <= high
+
+
+def is_row(value):
+    """Tell whether the value is a tuple or list."""
+    return isinstance(value, (tuple, list))
+
+
+def ask_number(value, name, low, high):
+    """Raise BadNumber(name) unless the value is a whole number from low to high."""
+    if not is_between(value, low, high):
+        raise BadNumber(name)
+
+
+def ask_place(value, size):
+    """Raise BadPlace(value) unless the value is a place below size."""
+    if not is_between(value, 0, size - 1):
+        raise BadPlace(value)
+
+
+def ask_at_most(world, most):
+    """Raise TooMany if the world has more than `most` places."""
+    if world.size > most:
+        raise TooMany(world.size)
+
+
+def ask_steady(world):
+    """Raise HasCalls with the least calling tie unless the world is steady."""
+    calling = world.calling()
+    if len(calling) > 0:
+        raise HasCalls(calling[0])

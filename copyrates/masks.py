@@ -1,0 +1,30 @@
+"""Lots told by their numbers: place i of a lot is the bit 1 << i."""
+
+from copyrates.errors import BadLot
+from copyrates.kinds import is_between, is_row
+
+
+def mask_of(value, size):
+    """Return the number of the lot that was passed, or raise BadLot."""
+    if not is_row(value):
+        raise BadLot(None)
+    mask = 0
+    for entry in value:
+        if not is_between(entry, 0, size - 1) or (mask >> entry) & 1 == 1:
+            raise BadLot(entry)
+        mask = mask | (1 << entry)
+    return mask
+
+
+def lot_in(mask):
+    """Return the lot with this number."""
+    return tuple([place for place in range(mask.bit_length()) if (mask >> place) & 1 == 1])
+
+
+def mask_above_zero(row):
+    """Return the number of the lot of all indices whose entry is above 0."""
+    mask = 0
+    for at, entry in enumerate(row):
+        if entry > 0:
+            mask = mask | (1 << at)
+    return mask

@@ -1,0 +1,22 @@
+"""The search for least rows of moves, which several modules share."""
+
+
+def least_rows(starts, moves):
+    """Return for each state that can be reached a least row of moves to it.
+
+    `moves(state)` gives pairs (move, next state). The result is a dict from
+    each state to the tuple of moves that leads to it from one of the starts.
+    """
+    rows = {}
+    for state in starts:
+        rows[state] = ()
+    edge = list(starts)
+    while len(edge) > 0:
+        found = []
+        for state in edge:
+            for move, reached in moves(state):
+                if reached not in rows:
+                    rows[reached] = rows[state] + (move,)
+                    found.append(reached)
+        edge = found
+    return rows

@@ -1,0 +1,164 @@
+"""What the tests share: refusals, kinds of values, worlds to try, and plain oracles."""
+
+import random
+import unittest
+from fractions import Fraction
+from itertools import product
+
+from copyrates import errors
+from copyrates.worlds import World
+
+ATTRIBUTES = {
+    "BadNumber": "name", "BadFraction": "name", "Fixed": "name", "BadPlace": "place", "BadTie": "tie",
+    "BadLot": "place", "BadTable": "row", "BadGrades": "at", "BadMark": "at", "BadBlocks": "place",
+    "BadOdds": "place", "NotLinked": "lot", "NotHeld": "lot", "HasCalls": "tie", "ManyHeads": "number",
+    "TooMany": "number", "OtherSize": "size",
+}
+
+BIG = 10 ** 15
+NO_WHOLE = (True, False, None, "1", 1.0, (1,), [0])
+
+
+class Checks(unittest.TestCase):
+    def refused(self, name, value, call, *args, **named):
+        """The call raises the error of this name, whose one attribute is just this value."""
+        with self.assertRaises(errors.RatesError) as caught:
+            call(*args, **named)
+        found = caught.exception
+        self.assertEqual(type(found).__name__, name)
+        self.assertIs(type(found), getattr(errors, name))
+        self.assertEqual(repr(vars(found)), repr({ATTRIBUTES[name]: value}))
+
+    def told(self, value):
+        """The value has no lists: it is a tuple through and through, or a plain value."""
+        if type(value) is tuple:
+            for part in value:
+                self.told(part)
+        else:
+            self.assertIn(type(value), (int, str, bool, type(None)))
+        return value
+
+    def same(self, value, wanted):
+        """The value is the wanted one, in its kinds, too."""
+        self.assertEqual(repr(value), repr(wanted))
+
+    def fraction(self, value):
+        """The value is a fraction in lowest terms; returns it as a Fraction."""
+        self.told(value)
+        self.assertEqual(len(value), 2)
+        self.assertGreaterEqual(value[1], 1)
+        worth = Fraction(*value)
+        self.assertEqual(value, (worth.numerator, worth.denominator))
+        return worth
+
+
+def pair(worth):
+    worth = Fraction(worth)
+    return (worth.numerator, worth.denominator)
+
+
+def lots(size):
+    return [tuple(i for i in range(size) if number >> i & 1) for number in range(1 << size)]
+
+
+def number_of_places(lot):
+    return sum(1 << place for place in lot)
+
+
+def webs(size):
+    """All webs of this size with takes 0 and 1."""
+    cells = [(i, j) for i in range(size) for j in range(size) if i != j]
+    for entries in product((0, 1), repeat=len(cells)):
+        rows = [[0] * size for _ in range(size)]
+        for (i, j), entry in zip(cells, entries):
+            rows[i][j] = entry
+        yield World(rows)
+
+
+def table(size, entry):
+    return [[0 if i == j else entry(i, j) for j in range(size)] for i in range(size)]
+
+
+def some_worlds(size, many, seed, zeros=2, top=4, calls=True):
+    """Worlds with drawn rates; the greater `zeros` is, the fewer ties they have."""
+    draw = random.Random(seed)
+    for _ in range(many):
+        takes = table(size, lambda i, j: max(0, draw.randrange(-zeros, top) + 1))
+        rows = None
+        if calls:
+            rows = table(size, lambda i, j: draw.choice((0, 0, 1, 2, 3)) if takes[i][j] else 0)
+        yield World(takes, calls=rows)
+
+
+def reach_of(takes, start):
+    seen, new = {start}, [start]
+    while new:
+        place = new.pop()
+        for other, take in enumerate(takes[place]):
+            if take > 0 and other not in seen:
+                seen.add(other)
+                new.append(other)
+    return tuple(sorted(seen))
+
+
+def linked(world):
+    return all(len(reach_of(world.takes, i)) == world.size for i in range(world.size))
+
+
+def some_linked(size, many, seed, zeros=2, top=4, calls=True):
+    return [world for world in some_worlds(size, many, seed, zeros, top, calls) if linked(world)]
+
+
+def path_web(order, entry=lambda i, j: 1):
+    """The web in which just neighbours in the order look at each other."""
+    beside = {(order[k], order[k + 1]) for k in range(len(order) - 1)}
+    return table(len(order), lambda i, j: entry(i, j) if (i, j) in beside or (j, i) in beside else 0)
+
+
+def ring_takes(size):
+    return table(size, lambda i, j: 1 if j == (i + 1) % size else 0)
+
+
+def own(world):
+    found = []
+    for i in range(world.size):
+        for j in range(world.size):
+            found.extend([(i, j, "take")] * (world.takes[i][j] > 0))
+            found.extend([(i, j, "call")] * (world.calls[i][j] > 0))
+    return found
+
+
+def rate(world, mark):
+    i, j, word = mark
+    return (world.takes if word == "take" else world.calls)[i][j]
+
+
+def do(grades, marks):
+    grades = list(grades)
+    for i, j, word in marks:
+        grades[i] = grades[j] if word == "take" else max(grades[i], grades[j])
+    return tuple(grades)
+
+
+def start(lot, size):
+    return tuple(1 if i in lot else 0 for i in range(size))
+
+
+def stepped(lot, marks):
+    lot = set(lot)
+    for i, j, word in reversed(marks):
+        if i in lot:
+            if word == "take":
+                lot.remove(i)
+            lot.add(j)
+    return tuple(sorted(lot))
+
+
+def some_marks(size, many, seed):
+    draw = random.Random(seed)
+    marks = []
+    for _ in range(many):
+        i = draw.randrange(size)
+        j = draw.choice([j for j in range(size) if j != i])
+        marks.append((i, j, draw.choice(("take", "call"))))
+    return marks

@@ -1,0 +1,93 @@
+"""Point 0.3 and the interface: where each name is defined, its arguments, and its kind."""
+
+import importlib
+import inspect
+import unittest
+
+FUNCTIONS = {
+    "ratios": (
+        "ratio(top, bottom=1)", "fraction_of(value, name)", "added(a, b)", "less(a, b)", "times(a, b)", "over(a, b)",
+        "compare(a, b)", "total_of(rows)",
+    ),
+    "lots": (
+        "lot_of(value, size)", "number_of(lot, size)", "lot_at(number, size)", "all_lots(size)", "rest_of(lot, size)",
+    ),
+    "worlds": ("web_of(world)", "with_calls(world, calls)", "closed_lot(world, lot)"),
+    "linking": (
+        "is_linked(world)", "shut_lot(world)", "way(world, start, goal)", "heads(world)", "reaches(world, place)",
+    ),
+    "even": (
+        "table_of(table)", "is_even(table)", "uneven_lot(table)", "out_of(table, lot)", "into(table, lot)",
+        "rings_of(table)", "from_rings(size, rings)",
+    ),
+    "shapes": (
+        "is_two_way(world)", "sides(world)", "odd_ring(world)", "line(world)", "branch(world)", "fair_break(world)",
+    ),
+    "marks": ("mark_of(value, size)", "marks_of(marks, size)", "of_world(world, marks)", "weight(world, marks)"),
+    "doing": (
+        "grades_of(value, size)", "end_grades(grades, marks)", "states(grades, marks)", "effective(grades, marks)",
+    ),
+    "runtables": ("jury_walk(marks, lot, size)", "step_back(mark, lot)"),
+    "decided": ("gathered(world, jury)", "decided_row(world, jury)"),
+    "markrows": (
+        "forward(world, number, start, lot)", "backward(world, number, start, lot)", "decided_share(world, number)",
+    ),
+    "exchange": ("walk_row(world, pair, goal)", "pairs_from(world, pair)"),
+    "sayrows": (
+        "says(world)", "flow(world)", "said(world, lot)", "squares(world, lot)", "lasts(world, grades)",
+        "mean_says(world, grades)",
+    ),
+    "turnworth": ("turns(world, lot)", "turns_by_run(world, lot)"),
+}
+CLASSES = {
+    ("worlds", "World"): (
+        "(takes, *, calls=None)",
+        {"steady_of": classmethod, "total": property, "steady": property},
+        ("__init__", "rate", "ties", "calling", "__add__", "__mul__", "__eq__"),
+    ),
+    ("runtables", "Run"): (
+        "(size, marks)",
+        {"from_text": classmethod, "word_of": staticmethod, "table": property, "decided": property, "jury": property},
+        ("__init__", "text", "back", "sources", "ends", "__add__", "__and__", "__eq__", "__iter__", "__len__"),
+    ),
+}
+
+
+def module(name):
+    return importlib.import_module("copyrates." + name)
+
+
+class Interface(unittest.TestCase):
+    def test_functions(self):
+        for name, functions in FUNCTIONS.items():
+            for text in functions:
+                function = getattr(module(name), text[:text.index("(")])
+                self.assertEqual(function.__module__, "copyrates." + name)
+                self.assertEqual(function.__name__ + str(inspect.signature(function)), text)
+
+    def test_classes(self):
+        for (name, called), (arguments, kinds, methods) in CLASSES.items():
+            made = getattr(module(name), called)
+            self.assertEqual(made.__module__, "copyrates." + name)
+            self.assertEqual(str(inspect.signature(made)), arguments)
+            for method, kind in kinds.items():
+                self.assertIs(type(vars(made)[method]), kind)
+            for method in methods:
+                self.assertTrue(inspect.isfunction(vars(made)[method]))
+
+    def test_arguments_of_methods(self):
+        world, run = module("worlds").World, module("runtables").Run
+        for method, text in (
+            (world.steady_of, "(takes)"), (world.rate, "(self, i, j)"), (run.from_text, "(text, size)"),
+            (run.word_of, "(mark)"), (run.back, "(self, lot)"), (run.sources, "(self, place)"),
+            (run.ends, "(self, grades)"), (run.text, "(self)"), (world.ties, "(self)"), (world.calling, "(self)"),
+        ):
+            self.assertEqual(str(inspect.signature(method)), text)
+
+    def test_generators(self):
+        for name, called in (("doing", "states"), ("runtables", "jury_walk")):
+            self.assertTrue(inspect.isgeneratorfunction(getattr(module(name), called)))
+
+
+if __name__ == "__main__":
+    unittest.main()

@@ -1,0 +1,187 @@
+"""Those rules of the language subset that a test can see: L1 to L3, L7, L8, L10, L12, L14 to L17, L20, L23, L25, L27.
+
+The test reads the files of the package. It finds common slips; it does not prove that every rule is kept.
+"""
+
+import ast
+import builtins
+import io
+import re
+import tokenize
+import unittest
+import warnings
+from pathlib import Path
+
+FOLDER = Path(__file__).resolve().parent.parent / "copyrates"
+LIBRARY = {
+    "heapq": "heappush heappop heapify heapreplace heappushpop",
+    "math": "gcd lcm isqrt comb perm factorial",
+    "collections": "defaultdict",
+    "__future__": "annotations",
+}
+BUILTINS = set("""
+len range enumerate zip min max sum abs sorted reversed int str bool list tuple dict set isinstance ord repr any all
+divmod pow iter next map Exception ValueError TypeError KeyError IndexError LookupError ZeroDivisionError
+ArithmeticError OverflowError RuntimeError NotImplementedError AttributeError NotImplemented property staticmethod
+classmethod super
+""".split())
+METHODS = set("""
+append clear copy count endswith extend find get index insert isalnum isalpha isdigit islower isspace isupper items
+join keys ljust lower lstrip partition pop remove replace reverse rfind rjust rpartition rsplit rstrip setdefault split
+splitlines startswith strip update upper values zfill bit_length add discard
+""".split())
+BARRED = re.compile(r"\b(register|mro|elements|open|input|law|version_info|type|typing|enum|compile|eval|exec|globals"
+                    r"|locals|vars|dir|id|os|sys|_wall\w*)\b|dataclass|overload|contextmanager")
+NODES = (
+    ast.Global, ast.AsyncFunctionDef, ast.AsyncFor, ast.AsyncWith, ast.Await, ast.Div, ast.MatMult, ast.GeneratorExp,
+    ast.SetComp,
+)
+
+
+def files():
+    return sorted(path for path in FOLDER.iterdir() if path.name != "__pycache__")
+
+
+def trees():
+    return [(path, ast.parse(path.read_text(encoding="ascii"))) for path in files()]
+
+
+def functions(tree):
+    return [node for node in ast.walk(tree) if isinstance(node, ast.FunctionDef)]
+
+
+def defined(tree):
+    """The names that the file itself binds at module level, without imports."""
+    found = []
+    for node in tree.body:
+        if isinstance(node, (ast.FunctionDef, ast.ClassDef)):
+            found.append(node.name)
+        elif isinstance(node, ast.Assign):
+            found.extend(target.id for target in node.targets)
+    return found
+
+
+def imported(tree):
+    return [alias.asname or alias.name for node in tree.body if isinstance(node, ast.ImportFrom) for alias in node.names]
+
+
+def bound(function):
+    """The parameters and local variables of a function."""
+    found = {node.arg for node in ast.walk(function) if isinstance(node, ast.arg)}
+    return found | {node.id for node in ast.walk(function) if isinstance(node, ast.Name) and isinstance(node.ctx, ast.Store)}
+
+
+class Language(unittest.TestCase):
+    def test_files(self):
+        self.assertLessEqual(len(files()), 100)
+        for path in files():
+            self.assertRegex(path.name, r"^(__init__|__main__|[a-z][a-z0-9_]*)\.py$")
+            text = path.read_bytes()
+            self.assertTrue(all(byte == 10 or 32 <= byte < 127 for byte in text), path.name)
+            lines = text.decode().splitlines()
+            self.assertLessEqual(len(lines), 399, path.name)
+            self.assertLessEqual(max([len(line) for line in lines], default=0), 120, path.name)
+
+    def test_no_warnings(self):
+        for path in files():
+            with warnings.catch_warnings():
+                warnings.simplefilter("error")
+                compile(path.read_text(), str(path), "exec")
+
+    def test_functions_are_short(self):
+        for path, tree in trees():
+            for node in functions(tree):
+                self.assertLessEqual(node.end_lineno - node.lineno + 1, 40, f"{path.name}: {node.name}")
+
+    def test_module_level(self):
+        allowed = (ast.ImportFrom, ast.FunctionDef, ast.ClassDef, ast.Assign)
+        for path, tree in trees():
+            self.assertTrue(ast.get_docstring(tree), path.name)
+            for node in tree.body[1:]:
+                self.assertIsInstance(node, allowed, f"{path.name}:{node.lineno}")
+            names = defined(tree) + imported(tree)
+            self.assertEqual(len(names), len(set(names)), path.name)
+
+    def test_imports(self):
+        named = {path.stem: defined(tree) for path, tree in trees()}
+        needs = {}
+        for path, tree in trees():
+            needs[path.stem] = set()
+            for node in ast.walk(tree):
+                self.assertNotIsInstance(node, ast.Import)
+                if not isinstance(node, ast.ImportFrom):
+                    continue
+                self.assertIn(node, tree.body)
+                for alias in node.names:
+                    self.assertIsNone(alias.asname)
+                    if node.module in LIBRARY:
+                        self.assertIn(alias.name, LIBRARY[node.module].split())
+                    else:
+                        package, source = node.module.split(".")
+                        self.assertEqual((package, node.level), ("copyrates", 0))
+                        self.assertIn(alias.name, named[source], f"{path.name}: {alias.name}")
+                        needs[path.stem].add(source)
+        while needs:
+            free = [name for name, others in needs.items() if not others & set(needs)]
+            self.assertTrue(free, f"a circle of imports: {sorted(needs)}")
+            needs = {name: others for name, others in needs.items() if name not in free}
+
+    def test_nodes(self):
+        for path, tree in trees():
+            for node in ast.walk(tree):
+                where = f"{path.name}:{getattr(node, 'lineno', 0)}"
+                self.assertNotIsInstance(node, NODES, where)
+                if isinstance(node, ast.Constant):
+                    self.assertIn(type(node.value), (int, str, bool, type(None)), where)
+                if isinstance(node, ast.Compare):
+                    for sign, other in zip(node.ops, node.comparators):
+                        if isinstance(sign, (ast.Is, ast.IsNot)):
+                            self.assertIn(getattr(other, "value", 0), (None, True, False), where)
+                if isinstance(node, ast.BinOp) and isinstance(node.op, ast.Pow):
+                    self.assertIsInstance(node.right, ast.Constant, where)
+                if isinstance(node, (ast.FunctionDef, ast.ClassDef)):
+                    for mark in node.decorator_list:
+                        shown = ast.unparse(mark)
+                        self.assertTrue(shown in ("property", "classmethod", "staticmethod") or
+                                        shown.endswith(".setter"), where)
+
+    def test_names(self):
+        every = set(dir(builtins))
+        for path, tree in trees():
+            known = set(imported(tree)) | {node.name for node in tree.body if isinstance(node, ast.ClassDef)}
+            for name in defined(tree) + imported(tree):
+                self.assertNotIn(name, every, path.name)
+            for function in functions(tree):
+                self.assertFalse(bound(function) & (every | known), f"{path.name}: {function.name}")
+            for node in ast.walk(tree):
+                if isinstance(node, ast.Name) and node.id in every:
+                    self.assertIn(node.id, BUILTINS, f"{path.name}:{node.lineno}")
+
+    def test_methods(self):
+        own = {node.name for path, tree in trees() for node in functions(tree)}
+        for path, tree in trees():
+            for node in ast.walk(tree):
+                if isinstance(node, ast.Call) and isinstance(node.func, ast.Attribute):
+                    self.assertIn(node.func.attr, METHODS | own, f"{path.name}:{node.lineno}")
+
+    def test_generators(self):
+        every = [node.name for path, tree in trees() for node in functions(tree)]
+        for path, tree in trees():
+            for node in functions(tree):
+                if any(isinstance(part, (ast.Yield, ast.YieldFrom)) for part in ast.walk(node)):
+                    self.assertEqual(every.count(node.name), 1, node.name)
+                    self.assertNotIn(node.name, METHODS)
+
+    def test_words_and_strings(self):
+        for path in files():
+            for token in tokenize.generate_tokens(io.StringIO(path.read_text()).readline):
+                where = f"{path.name}:{token.start[0]}"
+                if token.type == tokenize.NAME:
+                    self.assertIsNone(BARRED.search(token.string), where)
+                elif token.type == tokenize.STRING:
+                    self.assertNotIn("%", token.string, where)
+                    self.assertIsNone(re.search(r"\\[^n\\t'\"]", token.string), where)
+
+
+if __name__ == "__main__":
+    unittest.main()
