@@ -32,7 +32,7 @@ def weights_after(world, number, first, moved):
     sums = {first: 1}
     for _ in range(number):
         further = {}
-        for state, worth in sums.items():
+        for state, worth in list(sums.items()):
             for mark, rate in marks:
                 reached = moved(mark, state)
                 further[reached] = further.get(reached, 0) + worth * rate

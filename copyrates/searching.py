@@ -10,13 +10,14 @@ def least_rows(starts, moves):
     rows = {}
     for state in starts:
         rows[state] = ()
-    edge = list(starts)
-    while len(edge) > 0:
-        found = []
-        for state in edge:
-            for move, reached in moves(state):
-                if reached not in rows:
-                    rows[reached] = rows[state] + (move,)
-                    found.append(reached)
-        edge = found
+    # The queue grows while it is read, so it is read by an index and not walked.
+    queue = list(starts)
+    at = 0
+    while at < len(queue):
+        state = queue[at]
+        for move, reached in moves(state):
+            if reached not in rows:
+                rows[reached] = rows[state] + (move,)
+                queue.append(reached)
+        at += 1
     return rows

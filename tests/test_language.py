@@ -32,6 +32,7 @@ splitlines startswith strip update upper values zfill bit_length add discard
 """.split())
 BARRED = re.compile(r"\b(register|mro|elements|open|input|law|version_info|type|typing|enum|compile|eval|exec|globals"
                     r"|locals|vars|dir|id|os|sys|_wall\w*)\b|dataclass|overload|contextmanager")
+CHANGING = set("append clear extend insert pop remove reverse setdefault update sort".split())
 NODES = (
     ast.Global, ast.AsyncFunctionDef, ast.AsyncFor, ast.AsyncWith, ast.Await, ast.Div, ast.MatMult, ast.GeneratorExp,
     ast.SetComp,
@@ -69,6 +70,51 @@ def bound(function):
     """The parameters and local variables of a function."""
     found = {node.arg for node in ast.walk(function) if isinstance(node, ast.arg)}
     return found | {node.id for node in ast.walk(function) if isinstance(node, ast.Name) and isinstance(node.ctx, ast.Store)}
+
+
+def choices(node):
+    """The names that an expression may stand for."""
+    if isinstance(node, ast.IfExp):
+        return choices(node.body) + choices(node.orelse)
+    if isinstance(node, ast.BoolOp):
+        return [name for part in node.values for name in choices(part)]
+    return [ast.unparse(node)] if isinstance(node, (ast.Name, ast.Attribute)) else []
+
+
+def walked(node):
+    """The names that a loop goes over, also through enumerate, zip, reversed and the views of dicts."""
+    if isinstance(node, ast.Call):
+        if isinstance(node.func, ast.Attribute) and node.func.attr in ("items", "keys", "values"):
+            return choices(node.func.value)
+        if isinstance(node.func, ast.Name) and node.func.id in ("enumerate", "zip", "reversed"):
+            return [name for part in node.args for name in walked(part)]
+        return []
+    return choices(node)
+
+
+def changed(rows):
+    """The names whose lists or dicts the statements change."""
+    found = []
+    for node in [part for row in rows for part in ast.walk(row)]:
+        if isinstance(node, ast.Call) and isinstance(node.func, ast.Attribute) and node.func.attr in CHANGING:
+            found.extend(choices(node.func.value))
+        targets = node.targets if isinstance(node, (ast.Assign, ast.Delete)) else []
+        for target in targets + ([node.target] if isinstance(node, ast.AugAssign) else []):
+            while isinstance(target, ast.Subscript):
+                target = target.value
+                found.extend(choices(target))
+    return found
+
+
+def one_thing(function):
+    """For each name of the function, the set of the names that may stand for the same thing, in whatever order."""
+    same = {}
+    for node in ast.walk(function):
+        if isinstance(node, ast.Assign):
+            for names in [choices(target) + choices(node.value) for target in node.targets]:
+                joined = set(names).union(*[same.get(name, set()) for name in names])
+                same.update({name: joined for name in joined})
+    return same
 
 
 class Language(unittest.TestCase):
@@ -163,6 +209,15 @@ class Language(unittest.TestCase):
             for node in ast.walk(tree):
                 if isinstance(node, ast.Call) and isinstance(node.func, ast.Attribute):
                     self.assertIn(node.func.attr, METHODS | own, f"{path.name}:{node.lineno}")
+
+    def test_walked_lists_stay(self):
+        for path, tree in trees():
+            for function in functions(tree):
+                same = one_thing(function)
+                for loop in [node for node in ast.walk(function) if isinstance(node, ast.For)]:
+                    names = changed(loop.body)
+                    for name in walked(loop.iter):
+                        self.assertFalse(same.get(name, {name}) & set(names), f"{path.name}:{loop.lineno}")
 
     def test_generators(self):
         every = [node.name for path, tree in trees() for node in functions(tree)]
