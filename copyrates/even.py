@@ -2,10 +2,10 @@
 
 from math import lcm
 
-from copyrates.errors import BadFraction, BadLot, BadTable
+from copyrates.errors import BadLot, BadTable
 from copyrates.kinds import ask_number, is_row
 from copyrates.masks import mask_of
-from copyrates.ratios import added, fraction_of, is_fraction, lowest, total_of
+from copyrates.ratios import above_zero, added, fraction_of, is_fraction, lowest, total_of
 
 
 def told_row(row, at, size):
@@ -81,6 +81,12 @@ def lcm_of(told):
     return common
 
 
+def whole_rows(told):
+    """Return (common, rows): the entries are those of the rows of whole numbers over the least common lower number."""
+    common = lcm_of(told)
+    return (common, [[top * (common // bottom) for top, bottom in row] for row in told])
+
+
 def ring_steps(ring):
     """Return the pairs of places that stand side by side in a ring."""
     return [(place, ring[(at + 1) % len(ring)]) for at, place in enumerate(ring)]
@@ -118,8 +124,7 @@ def rings_of(table):
     lot = uneven_lot(told)
     if lot is not None:
         raise BadTable(lot[0])
-    common = lcm_of(told)
-    rows = [[top * (common // bottom) for top, bottom in row] for row in told]
+    common, rows = whole_rows(told)
     found = []
     ring = ring_in(rows)
     while ring is not None:
@@ -138,10 +143,7 @@ def weighed_ring(pair, size):
     mask_of(ring, size)
     if len(ring) < 2:
         raise BadLot(None)
-    told = fraction_of(weight, "weight")
-    if told[0] <= 0:
-        raise BadFraction("weight")
-    return (tuple(ring), told)
+    return (tuple(ring), above_zero(weight, "weight"))
 
 
 def from_rings(size, rings):

@@ -1,6 +1,6 @@
 """What kind a value is, and the checks of plain arguments."""
 
-from copyrates.errors import BadNumber, BadPlace, HasCalls, TooMany
+from copyrates.errors import BadNumber, BadPlace, BadTie, HasCalls, TooMany
 
 
 def is_whole(value):
@@ -28,6 +28,16 @@ def ask_place(value, size):
     """Raise BadPlace(value) unless the value is a place below size."""
     if not is_between(value, 0, size - 1):
         raise BadPlace(value)
+
+
+def tie_of(world, value):
+    """Return the value as a tie of the world, a tuple, or raise BadTie(value)."""
+    if not is_row(value) or len(value) != 2:
+        raise BadTie(value)
+    i, j = value
+    if not is_between(i, 0, world.size - 1) or not is_between(j, 0, world.size - 1) or world.takes[i][j] == 0:
+        raise BadTie(value)
+    return (i, j)
 
 
 def ask_at_most(world, most):

@@ -21,6 +21,11 @@ def lot_in(mask):
     return tuple([place for place in range(mask.bit_length()) if (mask >> place) & 1 == 1])
 
 
+def masks_within(mask):
+    """Return the numbers of all lots of places of the lot with this number, ascending."""
+    return [number for number in range(mask + 1) if number & mask == number]
+
+
 def mask_above_zero(row):
     """Return the number of the lot of all indices whose entry is above 0."""
     mask = 0

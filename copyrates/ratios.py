@@ -41,6 +41,14 @@ def fraction_of(value, name):
     return lowest(value[0], value[1])
 
 
+def above_zero(value, name):
+    """Return the value as a fraction above 0, or raise BadFraction(name)."""
+    told = fraction_of(value, name)
+    if told[0] <= 0:
+        raise BadFraction(name)
+    return told
+
+
 def added(a, b):
     """Return the fraction a + b."""
     top, bottom = fraction_of(a, "a")

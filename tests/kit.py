@@ -162,3 +162,73 @@ def some_marks(size, many, seed):
         j = draw.choice([j for j in range(size) if j != i])
         marks.append((i, j, draw.choice(("take", "call"))))
     return marks
+
+
+def solve(rows):
+    """The one solution of linear equations; behind the numbers of each row stands its right side."""
+    rows = [[Fraction(entry) for entry in row] for row in rows]
+    for at in range(len(rows)):
+        pivot = next(k for k in range(at, len(rows)) if rows[k][at] != 0)
+        rows[at], rows[pivot] = rows[pivot], rows[at]
+        rows[at] = [entry / rows[at][at] for entry in rows[at]]
+        for k, row in enumerate(rows):
+            if k != at and row[at] != 0:
+                rows[k] = [a - row[at] * b for a, b in zip(row, rows[at])]
+    return [row[-1] for row in rows]
+
+
+def fractions(row):
+    return [Fraction(*entry) for entry in row]
+
+
+def rest(lot, size):
+    return tuple(i for i in range(size) if i not in lot)
+
+
+def held_takes(takes, lot):
+    return [[0] * len(row) if at in lot else list(row) for at, row in enumerate(takes)]
+
+
+def some_held(size, many, seed, calls=True):
+    """Worlds in which the places of a drawn lot are stubborn, and from each other place a way leads to one of them."""
+    draw = random.Random(seed)
+    found = []
+    while len(found) < many:
+        lot = draw.sample(range(size), draw.randrange(1, size))
+        world = next(some_worlds(size, 1, draw.randrange(10 ** 6), zeros=size - 1, calls=calls))
+        world = World(held_takes(world.takes, lot), calls=held_takes(world.calls, lot))
+        if all(set(reach_of(world.takes, i)) & set(lot) for i in range(size)):
+            found.append(world)
+    return found
+
+
+def stubborn(world):
+    return tuple(i for i in range(world.size) if sum(world.takes[i]) == 0)
+
+
+def start_moves(world, lot):
+    """What the own marks turn the start into, each other start with its rate."""
+    found = {}
+    for mark in own(world):
+        after = do(start(lot, world.size), [mark])
+        reached = tuple(i for i in range(world.size) if after[i])
+        if reached != tuple(lot):
+            found[reached] = found.get(reached, 0) + rate(world, mark)
+    return found
+
+
+def back_moves(world, lot):
+    """What the own marks step the lot back to, each other lot with its rate."""
+    found = {}
+    for mark in own(world):
+        reached = stepped(lot, [mark])
+        if reached != tuple(lot):
+            found[reached] = found.get(reached, 0) + rate(world, mark)
+    return found
+
+
+def equal_up_to_factor(one, other):
+    """Whether all rates of the one world are those of the other one times one number."""
+    rates = [sum(world.takes, ()) + sum(world.calls, ()) for world in (one, other)]
+    factor = Fraction(sum(rates[0]), sum(rates[1]))
+    return all(a == factor * b for a, b in zip(*rates))

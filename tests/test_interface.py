@@ -38,6 +38,26 @@ FUNCTIONS = {
         "mean_says(world, grades)",
     ),
     "turnworth": ("turns(world, lot)", "turns_by_run(world, lot)"),
+    "reshaping": (
+        "left_out(world, place)", "glued(world, other, place, other_place)", "slowed(world, factors)",
+        "from_flow(table, row)", "ring_web(size, ring, row, weight)",
+    ),
+    "samewins": ("same_winners(world, other)", "flow_gap(world, other)"),
+    "meeting": ("meetings(world)", "meeting_sum(world)", "apart(world, lot)", "visits(world, pair)"),
+    "slopes": (),
+    "helds": (
+        "stubborn_places(world)", "free_places(world)", "is_held(world)", "held_world(world, lot)", "headed(world)",
+    ),
+    "endings": (
+        "end_chances(world, lot)", "lit(world, lot, holders)", "lasting_greatest(world, lot, grades)",
+        "both_ways(world)",
+    ),
+    "lastings": ("lasting_lots(world, holders)", "all_zero(world, lot, holders)"),
+    "firsts": (
+        "first_meetings(world, one, other)", "sure_places(world, holders)", "covariance(world, one, other, holders)",
+        "number_covariance(world, one, other, numbers)", "independent_lot(world, lot, holders)",
+        "tied_pair(world, lot, holders)",
+    ),
 }
 CLASSES = {
     ("worlds", "World"): (
@@ -50,6 +70,7 @@ CLASSES = {
         {"from_text": classmethod, "word_of": staticmethod, "table": property, "decided": property, "jury": property},
         ("__init__", "text", "back", "sources", "ends", "__add__", "__and__", "__eq__", "__iter__", "__len__"),
     ),
+    ("slopes", "Slopes"): ("(world)", {"table": property}, ("__init__", "slope", "part", "of_tie", "singles")),
 }
 
 
@@ -76,11 +97,13 @@ class Interface(unittest.TestCase):
                 self.assertTrue(inspect.isfunction(vars(made)[method]))
 
     def test_arguments_of_methods(self):
-        world, run = module("worlds").World, module("runtables").Run
+        world, run, slopes = module("worlds").World, module("runtables").Run, module("slopes").Slopes
         for method, text in (
             (world.steady_of, "(takes)"), (world.rate, "(self, i, j)"), (run.from_text, "(text, size)"),
             (run.word_of, "(mark)"), (run.back, "(self, lot)"), (run.sources, "(self, place)"),
             (run.ends, "(self, grades)"), (run.text, "(self)"), (world.ties, "(self)"), (world.calling, "(self)"),
+            (slopes.slope, "(self, lot)"), (slopes.part, "(self, p, u)"), (slopes.of_tie, "(self, tie, lot)"),
+            (slopes.singles, "(self)"),
         ):
             self.assertEqual(str(inspect.signature(method)), text)
 
