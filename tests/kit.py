@@ -232,3 +232,60 @@ def equal_up_to_factor(one, other):
     rates = [sum(world.takes, ()) + sum(world.calls, ()) for world in (one, other)]
     factor = Fraction(sum(rates[0]), sum(rates[1]))
     return all(a == factor * b for a, b in zip(*rates))
+
+
+def wins_by_run(world):
+    """win of all lots in a world with one head, as Fractions, by equations between each start and its next ones."""
+    every = lots(world.size)
+    mixed = every[1:-1]
+    rows = []
+    for lot in mixed:
+        row = [0] * (len(mixed) + 1)
+        for reached, rate in start_moves(world, lot).items():
+            row[mixed.index(lot)] += rate
+            if reached in mixed:
+                row[mixed.index(reached)] -= rate
+            elif reached:
+                row[-1] += rate
+        rows.append(row)
+    return dict(zip(every, [Fraction(0)] + solve(rows) + [Fraction(1)]))
+
+
+def head_lots(world):
+    """The closed lots that contain no smaller closed lot."""
+    closed = [
+        lot for lot in lots(world.size)[1:]
+        if not any(world.takes[i][j] for i in lot for j in rest(lot, world.size))
+    ]
+    return [lot for lot in closed if not any(set(other) < set(lot) for other in closed)]
+
+
+def some_one_head(size, many, seed, calls=True):
+    """Worlds with one head, most of them not linked."""
+    found = []
+    while len(found) < many:
+        seed += 1
+        found.extend([
+            world for world in some_worlds(size, 1, seed, zeros=size, calls=calls)
+            if len(head_lots(world)) == 1 and (seed % 4 == 0 or not linked(world))
+        ])
+    return found
+
+
+def within(lot):
+    """All lots of places of the lot, in the order of their numbers."""
+    return [tuple(p for at, p in enumerate(lot) if number >> at & 1) for number in range(1 << len(lot))]
+
+
+def union(*parts):
+    return tuple(sorted(set().union(*parts)))
+
+
+def difference_of(f, base, extra):
+    """The difference of a function of lots at the one lot by the other."""
+    return sum((-1) ** (len(part) + 1) * f(union(base, part)) for part in within(extra))
+
+
+def crossing(one, other):
+    """Whether neither lot holds the other."""
+    return not set(one) <= set(other) and not set(other) <= set(one)

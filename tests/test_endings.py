@@ -10,7 +10,7 @@ from copyrates.lastings import all_zero, lasting_lots
 from copyrates.worlds import World, with_calls
 from tests.kit import (
     BIG, NO_WHOLE, Checks, back_moves, lots, number_of_places, pair, rest, ring_takes, some_held, some_linked,
-    stubborn, table
+    stubborn, table, union, within
 )
 
 PAIRED = World([[0, 1, 0], [1, 0, 0], [1, 0, 0]])
@@ -29,14 +29,6 @@ def trial_worlds(sizes=(2, 3, 4, 5)):
         found.extend(some_held(size, 4, 5 * size))
         found.extend(some_held(size, 2, 6 * size, calls=False))
     return [world for world in found if world.size in sizes]
-
-
-def within(lot):
-    return [tuple(p for at, p in enumerate(lot) if number >> at & 1) for number in range(1 << len(lot))]
-
-
-def union(*parts):
-    return tuple(sorted(set().union(*parts)))
 
 
 def ends_of(world, lot):

@@ -10,7 +10,7 @@ from copyrates.helds import free_places
 from copyrates.lastings import all_zero
 from copyrates.worlds import World
 from tests.kit import (
-    BIG, NO_WHOLE, Checks, lots, pair, reach_of, ring_takes, solve, some_held, stubborn, table
+    BIG, NO_WHOLE, Checks, lots, pair, reach_of, ring_takes, solve, some_held, stubborn, table, within
 )
 
 PAIRED = World([[0, 1, 0], [1, 0, 0], [1, 0, 0]], calls=[[0, 0, 0], [1, 0, 0], [0, 0, 0]])
@@ -27,10 +27,6 @@ def trial_worlds(sizes=(2, 3, 4, 5)):
     for size in sizes:
         found.extend(some_held(size, 7, 15 * size, calls=False))
     return [world for world in found if world.size in sizes]
-
-
-def within(lot):
-    return [tuple(p for at, p in enumerate(lot) if number >> at & 1) for number in range(1 << len(lot))]
 
 
 def meet(world):

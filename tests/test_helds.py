@@ -6,24 +6,12 @@ from copyrates.helds import free_places, headed, held_world, is_held, stubborn_p
 from copyrates.linking import heads
 from copyrates.worlds import World
 from tests.kit import (
-    BIG, Checks, held_takes, lots, reach_of, rest, ring_takes, some_held, some_linked, some_worlds, stubborn, table
+    BIG, Checks, head_lots, held_takes, lots, reach_of, rest, ring_takes, some_held, some_linked, some_worlds, stubborn, table
 )
 
 CALLS = (stubborn_places, free_places)
 # Two places that look at each other are the one head.
 PAIRED = World([[0, 1, 0], [1, 0, 0], [1, 0, 0]])
-
-
-def closed_lots(world):
-    return [
-        lot for lot in lots(world.size)[1:]
-        if not any(world.takes[i][j] for i in lot for j in rest(lot, world.size))
-    ]
-
-
-def head_lots(world):
-    closed = closed_lots(world)
-    return [lot for lot in closed if not any(set(other) < set(lot) for other in closed)]
 
 
 def trial_worlds():

@@ -58,6 +58,15 @@ FUNCTIONS = {
         "number_covariance(world, one, other, numbers)", "independent_lot(world, lot, holders)",
         "tied_pair(world, lot, holders)",
     ),
+    "wins": ("win(world, lot)", "win_row(world)", "mean_last(world, grades)", "last_chances(world, grades)"),
+    "juries": ("jury_steps(world, lot)",),
+    "signs": ("difference(world, base, extra)", "from_row(row)"),
+    "raising": ("raised(world, tie, number)", "helps(world, tie, lot)"),
+    "rises": ("call_worth(world, lot)", "rise_worth(world, grades)", "out_and_in(world)"),
+    "toldback": (
+        "call_sums(takes, row)", "factors_told(takes, row)", "same_wins(world, other)",
+        "far_chance(world, grades, lot, grade)",
+    ),
 }
 CLASSES = {
     ("worlds", "World"): (
@@ -71,6 +80,17 @@ CLASSES = {
         ("__init__", "text", "back", "sources", "ends", "__add__", "__and__", "__eq__", "__iter__", "__len__"),
     ),
     ("slopes", "Slopes"): ("(world)", {"table": property}, ("__init__", "slope", "part", "of_tie", "singles")),
+    ("juries", "Jury"): (
+        "(world)",
+        {"chances": property, "mean_size": property},
+        ("__init__", "chance", "meets", "misses", "holds", "sized", "share", "__call__", "__iter__"),
+    ),
+    ("rules", "Rule"): (
+        "(odds)",
+        {},
+        ("__init__", "__call__", "chance", "sized", "mean_jury", "share", "mean", "last_chances", "__eq__"),
+    ),
+    ("rules", "NaturalRule"): ("(says, strength)", {}, ("__init__",)),
 }
 
 
@@ -98,14 +118,22 @@ class Interface(unittest.TestCase):
 
     def test_arguments_of_methods(self):
         world, run, slopes = module("worlds").World, module("runtables").Run, module("slopes").Slopes
+        jury, rule = module("juries").Jury, module("rules").Rule
         for method, text in (
             (world.steady_of, "(takes)"), (world.rate, "(self, i, j)"), (run.from_text, "(text, size)"),
             (run.word_of, "(mark)"), (run.back, "(self, lot)"), (run.sources, "(self, place)"),
             (run.ends, "(self, grades)"), (run.text, "(self)"), (world.ties, "(self)"), (world.calling, "(self)"),
             (slopes.slope, "(self, lot)"), (slopes.part, "(self, p, u)"), (slopes.of_tie, "(self, tie, lot)"),
-            (slopes.singles, "(self)"),
+            (slopes.singles, "(self)"), (jury.chance, "(self, lot)"), (jury.meets, "(self, lot)"),
+            (jury.misses, "(self, lot)"), (jury.holds, "(self, lot)"), (jury.sized, "(self, number)"),
+            (jury.share, "(self, place)"), (jury.__call__, "(self, grades)"), (rule.__call__, "(self, lot)"),
+            (rule.chance, "(self, lot)"), (rule.sized, "(self, number)"), (rule.mean_jury, "(self)"),
+            (rule.share, "(self, place)"), (rule.mean, "(self, grades)"), (rule.last_chances, "(self, grades)"),
         ):
             self.assertEqual(str(inspect.signature(method)), text)
+
+    def test_bases(self):
+        self.assertEqual(module("rules").NaturalRule.__bases__, (module("rules").Rule,))
 
     def test_generators(self):
         for name, called in (("doing", "states"), ("runtables", "jury_walk")):

@@ -7,7 +7,7 @@ from copyrates.helds import free_places
 from copyrates.lastings import all_zero, lasting_lots
 from copyrates.endings import lit
 from copyrates.worlds import World
-from tests.kit import BIG, Checks, lots, number_of_places, pair, some_held, start_moves, stubborn, table
+from tests.kit import BIG, Checks, lots, number_of_places, pair, some_held, start_moves, stubborn, table, within
 
 
 def trial_worlds():
@@ -20,10 +20,6 @@ def trial_worlds():
         found.append(World(web, calls=table(5, lambda i, j: BIG if i in kept and i > j else 0)))
     found.append(World([[0, BIG], [0, 0]]))
     return [world for world in found if len(free_places(world)) < 4]
-
-
-def within(lot):
-    return [tuple(p for at, p in enumerate(lot) if number >> at & 1) for number in range(1 << len(lot))]
 
 
 class Lasting(Checks):

@@ -12,7 +12,7 @@ from copyrates.slopes import Slopes
 from copyrates.turnworth import turns
 from copyrates.worlds import World, web_of, with_calls
 from tests.kit import (
-    BIG, Checks, fractions, lots, number_of_places, pair, path_web, rest, ring_takes, solve, some_linked, start_moves, table
+    BIG, Checks, fractions, lots, number_of_places, pair, path_web, rest, ring_takes, some_linked, table, wins_by_run
 )
 
 SHUT = World([[0, 1, 0], [0, 0, 1], [0, 1, 0]], calls=[[0, 1, 0], [0, 0, 0], [0, 0, 0]])
@@ -49,19 +49,7 @@ def takes_total(world):
 
 def win_near(world, bottom):
     """win of all lots, as Fractions, with the calls divided by the bottom."""
-    thin = with_calls(web_of(world) * bottom, world.calls)
-    mixed = lots(world.size)[1:-1]
-    rows = []
-    for lot in mixed:
-        row = [0] * (len(mixed) + 1)
-        for reached, rate in start_moves(thin, lot).items():
-            row[mixed.index(lot)] += rate
-            if reached in mixed:
-                row[mixed.index(reached)] -= rate
-            elif reached:
-                row[-1] += rate
-        rows.append(row)
-    return [Fraction(0)] + solve(rows) + [Fraction(1)]
+    return wins_by_run(with_calls(web_of(world) * bottom, world.calls)).values()
 
 
 class SlopeTable(Checks):

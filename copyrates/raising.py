@@ -1,0 +1,33 @@
+"""Calls made greater, and which starts they help."""
+
+from copyrates.errors import BadNumber
+from copyrates.kinds import ask_at_most, is_whole, tie_of
+from copyrates.linking import ask_linked
+from copyrates.masks import mask_of
+from copyrates.pairwalks import pairs_across
+from copyrates.shapes import line
+from copyrates.worlds import World
+
+
+def raised(world, tie, number):
+    """Return the world in which the call on the tie is greater by the number."""
+    i, j = tie_of(world, tie)
+    if not is_whole(number) or number < 1:
+        raise BadNumber("number")
+    rows = [list(row) for row in world.calls]
+    rows[i][j] += number
+    return World(world.takes, calls=rows)
+
+
+def helps(world, tie, lot):
+    """Tell whether a greater call on the tie makes win of the lot greater."""
+    ask_at_most(world, 5)
+    ask_linked(world)
+    i, j = tie_of(world, tie)
+    across = pairs_across(world.size, mask_of(lot, world.size))
+    order = line(world)
+    if order is None:
+        return len(across) > 0
+    # On a line two places never change their order, so j and i must stand as one inside and one outside do.
+    upward = order.index(j) < order.index(i)
+    return len([one for one, other in across if (order.index(one) < order.index(other)) == upward]) > 0

@@ -1,0 +1,34 @@
+"""Differences of win, and of any row by lots."""
+
+from math import lcm
+
+from copyrates.differences import difference_at, difference_row
+from copyrates.errors import BadFraction, BadLot
+from copyrates.kinds import is_row
+from copyrates.masks import lot_in, mask_of
+from copyrates.ratios import fraction_of, lowest
+from copyrates.wins import win_parts
+
+
+def difference(world, base, extra):
+    """Return the difference of win at the lot `base` by the lot `extra`."""
+    whole, parts = win_parts(world)
+    low = mask_of(base, world.size)
+    more = mask_of(extra, world.size)
+    if more == 0:
+        raise BadLot(None)
+    common = lot_in(low & more)
+    if len(common) > 0:
+        raise BadLot(common[0])
+    return lowest(difference_at(parts, low, more), whole)
+
+
+def from_row(row):
+    """Return for each lot T, but (), the difference of the row by lots at the rest of T by T."""
+    if not is_row(row) or len(row) not in (4, 8, 16, 32):
+        raise BadFraction("row")
+    told = [fraction_of(entry, "row") for entry in row]
+    whole = 1
+    for top, bottom in told:
+        whole = lcm(whole, bottom)
+    return tuple([lowest(part, whole) for part in difference_row([top * (whole // bottom) for top, bottom in told])])
