@@ -1,9 +1,8 @@
 """Decided rows of own marks: which lots are their juries, and the shortest rows."""
 
-from copyrates.errors import BadLot
 from copyrates.linking import ask_linked
 from copyrates.marks import own_marks
-from copyrates.masks import lot_in, mask_above_zero, mask_of
+from copyrates.masks import lot_in, mask_above_zero, some_mask
 from copyrates.runtables import step_mask
 from copyrates.searching import least_rows
 
@@ -11,10 +10,7 @@ from copyrates.searching import least_rows
 def jury_mask(world, jury):
     """Return the number of a lot that is not (), for a linked world."""
     ask_linked(world)
-    mask = mask_of(jury, world.size)
-    if mask == 0:
-        raise BadLot(None)
-    return mask
+    return some_mask(jury, world.size)
 
 
 def called_from(world, place, mask):

@@ -3,9 +3,8 @@
 A row of whole numbers by lots, at the index of each lot's number, stands for chances over one whole.
 """
 
-from copyrates.errors import BadLot
 from copyrates.kinds import ask_number
-from copyrates.masks import lot_in, mask_of
+from copyrates.masks import lot_in, some_mask
 from copyrates.ratios import lowest, times, total_of
 
 # The least number that all numbers of places of a world divide.
@@ -20,10 +19,7 @@ def meeting_row(tops):
 
 def some_chance(whole, tops, lot, size):
     """Return the chance of a lot that is not (), checked."""
-    mask = mask_of(lot, size)
-    if mask == 0:
-        raise BadLot(None)
-    return lowest(tops[mask], whole)
+    return lowest(tops[some_mask(lot, size)], whole)
 
 
 def sized_chance(whole, tops, number, size):

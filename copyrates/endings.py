@@ -2,10 +2,10 @@
 
 from copyrates.chains import exit_parts
 from copyrates.doing import grades_of
-from copyrates.errors import BadLot, TooMany
+from copyrates.errors import TooMany
 from copyrates.helds import ask_held, free_mask, holder_mask, stubborn_mask
 from copyrates.jurysteps import back_rates
-from copyrates.masks import lot_in, mask_of, masks_within
+from copyrates.masks import lot_in, mask_of, masks_within, some_mask
 from copyrates.ratios import lowest
 from copyrates.searching import least_rows
 
@@ -13,8 +13,8 @@ from copyrates.searching import least_rows
 def end_parts(world, starts):
     """Return (whole, parts) for a held world: end(L, U) is parts[L][U] / whole.
 
-    All lots are told by their numbers. L is one of the starts, none of them 0, or a lot that jury steps
-    come to from them; parts[L] is a dict of the lots U with a chance above 0.
+    All lots are told by their numbers. L is one of the starts or a lot that jury steps come to from them;
+    parts[L] is a dict of the lots U with a chance above 0. The lot () never changes: it ends at itself.
     """
     stubborn = stubborn_mask(world)
     reached = list(least_rows(starts, lambda mask: [(other, other) for other in back_rates(world, mask)]))
@@ -33,18 +33,10 @@ def lit_part(ends, holders):
     return sum([part for mask, part in ends.items() if mask & holders != 0])
 
 
-def some_mask(world, lot):
-    """Return the number of a lot that is not ()."""
-    mask = mask_of(lot, world.size)
-    if mask == 0:
-        raise BadLot(None)
-    return mask
-
-
 def end_chances(world, lot):
     """Return each lot U of stubborn places with the chance, above 0, that jury steps from the lot end at U."""
     ask_held(world)
-    mask = some_mask(world, lot)
+    mask = some_mask(lot, world.size)
     whole, parts = end_parts(world, [mask])
     return tuple([(lot_in(end), lowest(part, whole)) for end, part in parts[mask].items()])
 
@@ -54,8 +46,6 @@ def lit(world, lot, holders):
     ask_held(world)
     mask = mask_of(lot, world.size)
     lighted = holder_mask(world, holders)
-    if mask == 0:
-        return (0, 1)
     whole, parts = end_parts(world, [mask])
     return lowest(lit_part(parts[mask], lighted), whole)
 
@@ -63,7 +53,7 @@ def lit(world, lot, holders):
 def lasting_greatest(world, lot, grades):
     """Return each grade with the lasting chance, above 0, that it is the greatest over the lot, grades ascending."""
     ask_held(world)
-    mask = some_mask(world, lot)
+    mask = some_mask(lot, world.size)
     told = grades_of(grades, world.size)
     whole, parts = end_parts(world, [mask])
     sums = {}
@@ -85,8 +75,7 @@ def few_free(world):
 def both_ways(world):
     """Return each lot of holders with the row of lit over all lots of free places."""
     lots = masks_within(few_free(world))
-    whole, parts = end_parts(world, lots[1:])
-    parts[0] = {}
+    whole, parts = end_parts(world, lots)
     return tuple([
         (lot_in(holders), tuple([lowest(lit_part(parts[mask], holders), whole) for mask in lots]))
         for holders in masks_within(stubborn_mask(world))

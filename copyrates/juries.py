@@ -3,20 +3,16 @@
 from copyrates.differences import difference_row
 from copyrates.doing import grades_of
 from copyrates.drawn import greatest_chances, share_mean, size_mean, sized_chance, some_chance
-from copyrates.errors import BadLot
 from copyrates.jurysteps import back_rates
 from copyrates.kinds import ask_place
-from copyrates.masks import lot_in, mask_of
+from copyrates.masks import lot_in, mask_of, some_mask
 from copyrates.ratios import lowest
 from copyrates.wins import win_parts
 
 
 def jury_steps(world, lot):
     """Return each other lot to which a mark steps the lot back, with the sum of the rates of such marks."""
-    mask = mask_of(lot, world.size)
-    if mask == 0:
-        raise BadLot(None)
-    rates = back_rates(world, mask)
+    rates = back_rates(world, some_mask(lot, world.size))
     return tuple([(lot_in(reached), rates[reached]) for reached in sorted(list(rates))])
 
 

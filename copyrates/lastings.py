@@ -12,9 +12,8 @@ def lasting_lots(world, holders):
     free = few_free(world)
     lighted = holder_mask(world, holders)
     lots = masks_within(free)
-    whole, parts = end_parts(world, lots[1:])
-    lit_row = {mask: lit_part(parts[mask], lighted) for mask in lots[1:]}
-    lit_row[0] = 0
+    whole, parts = end_parts(world, lots)
+    lit_row = {mask: lit_part(parts[mask], lighted) for mask in lots}
     worths = {mask: difference_at(lit_row, free - mask, mask) for mask in lots}
     # At () the difference is that of all free places lit; the chance is the rest.
     worths[0] = whole + worths[0]

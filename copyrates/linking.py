@@ -1,7 +1,7 @@
 """Ways, closed lots and heads of a world."""
 
 from copyrates.errors import NotLinked
-from copyrates.kinds import ask_place
+from copyrates.kinds import ask_at_most, ask_place
 from copyrates.masks import lot_in
 from copyrates.searching import least_rows
 from copyrates.worlds import is_closed, looks_of
@@ -26,6 +26,12 @@ def ask_linked(world):
     lot = shut_lot(world)
     if lot is not None:
         raise NotLinked(lot)
+
+
+def ask_small(world):
+    """Raise an error unless the world has at most 5 places and is linked."""
+    ask_at_most(world, 5)
+    ask_linked(world)
 
 
 def ways_from(world, start):

@@ -16,6 +16,14 @@ def mask_of(value, size):
     return mask
 
 
+def some_mask(value, size):
+    """Return the number of the lot that was passed, or raise BadLot; () is refused, too."""
+    mask = mask_of(value, size)
+    if mask == 0:
+        raise BadLot(None)
+    return mask
+
+
 def lot_in(mask):
     """Return the lot with this number."""
     return tuple([place for place in range(mask.bit_length()) if (mask >> place) & 1 == 1])

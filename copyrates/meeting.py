@@ -1,8 +1,8 @@
 """Two walks in a steady linked world: when they meet, and where they stand till then."""
 
 from copyrates.exchange import pair_of
-from copyrates.kinds import ask_at_most, ask_steady
-from copyrates.linking import ask_linked
+from copyrates.kinds import ask_steady
+from copyrates.linking import ask_small
 from copyrates.masks import mask_of
 from copyrates.pairwalks import pair_rows, pair_table, pairs_across, unlike_pairs
 from copyrates.ratios import lowest
@@ -12,8 +12,7 @@ from copyrates.solving import solved
 
 def ask_walked(world):
     """Raise an error unless the world is linked, steady and not too great."""
-    ask_at_most(world, 5)
-    ask_linked(world)
+    ask_small(world)
     ask_steady(world)
 
 

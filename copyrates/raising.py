@@ -1,8 +1,8 @@
 """Calls made greater, and which starts they help."""
 
 from copyrates.errors import BadNumber
-from copyrates.kinds import ask_at_most, is_whole, tie_of
-from copyrates.linking import ask_linked
+from copyrates.kinds import is_whole, tie_of
+from copyrates.linking import ask_small
 from copyrates.masks import mask_of
 from copyrates.pairwalks import pairs_across
 from copyrates.shapes import line
@@ -21,8 +21,7 @@ def raised(world, tie, number):
 
 def helps(world, tie, lot):
     """Tell whether a greater call on the tie makes win of the lot greater."""
-    ask_at_most(world, 5)
-    ask_linked(world)
+    ask_small(world)
     i, j = tie_of(world, tie)
     across = pairs_across(world.size, mask_of(lot, world.size))
     order = line(world)

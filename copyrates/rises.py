@@ -1,17 +1,10 @@
 """What calls add to the last grade, and the calls and takes of a drawn jury."""
 
 from copyrates.juries import Jury
-from copyrates.kinds import ask_at_most
-from copyrates.linking import ask_linked
+from copyrates.linking import ask_small
 from copyrates.ratios import less, times, total_of
 from copyrates.sayrows import mean_says, said
 from copyrates.wins import mean_last, win
-
-
-def ask_small(world):
-    """Raise an error unless the world is linked and not too great."""
-    ask_at_most(world, 5)
-    ask_linked(world)
 
 
 def call_worth(world, lot):

@@ -16,7 +16,7 @@ def flow_gap(world, other):
     for part in (world, other):
         ask_linked(part)
         ask_steady(part)
-    parts, whole = say_parts(world)
+    parts, _ = say_parts(world)
     for place in range(world.size):
         out = parts[place] * sum(other.takes[place])
         if sum([part * row[place] for part, row in zip(parts, other.takes)]) != out:

@@ -5,7 +5,7 @@ from math import lcm
 from copyrates.differences import difference_at, difference_row
 from copyrates.errors import BadFraction, BadLot
 from copyrates.kinds import is_row
-from copyrates.masks import lot_in, mask_of
+from copyrates.masks import lot_in, mask_of, some_mask
 from copyrates.ratios import fraction_of, lowest
 from copyrates.wins import win_parts
 
@@ -14,9 +14,7 @@ def difference(world, base, extra):
     """Return the difference of win at the lot `base` by the lot `extra`."""
     whole, parts = win_parts(world)
     low = mask_of(base, world.size)
-    more = mask_of(extra, world.size)
-    if more == 0:
-        raise BadLot(None)
+    more = some_mask(extra, world.size)
     common = lot_in(low & more)
     if len(common) > 0:
         raise BadLot(common[0])

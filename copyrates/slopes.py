@@ -1,8 +1,8 @@
 """Slopes: what small calls do to the chance to win, for all starts at once."""
 
 from copyrates.errors import BadPlace
-from copyrates.kinds import ask_at_most, ask_place, tie_of
-from copyrates.linking import ask_linked
+from copyrates.kinds import ask_place, tie_of
+from copyrates.linking import ask_small
 from copyrates.masks import mask_of
 from copyrates.pairwalks import pair_rows, pairs_across, unlike_pairs
 from copyrates.ratios import lowest
@@ -22,8 +22,7 @@ class Slopes:
     """The slopes and parts of a linked world; they never change."""
 
     def __init__(self, world):
-        ask_at_most(world, 5)
-        ask_linked(world)
+        ask_small(world)
         self.world = world
         self.size = world.size
         self._says, say_whole = say_parts(world)

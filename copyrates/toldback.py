@@ -2,11 +2,11 @@
 
 from copyrates.doing import grades_of
 from copyrates.endings import end_chances
-from copyrates.errors import BadFraction, BadLot, BadNumber, OtherSize
+from copyrates.errors import BadFraction, BadNumber, OtherSize
 from copyrates.helds import headed
 from copyrates.kinds import ask_at_most, is_row, is_whole
-from copyrates.linking import ask_linked, heads
-from copyrates.masks import lot_in, mask_of
+from copyrates.linking import ask_linked, ask_small, heads
+from copyrates.masks import lot_in, mask_of, some_mask
 from copyrates.ratios import added, fraction_of, less, lowest, over, times, total_of
 from copyrates.wins import head_wins, win_row
 from copyrates.worlds import World
@@ -39,8 +39,7 @@ def rate_sums(web, wins):
 def told_sums(takes, row):
     """Return the web with these takes and the sums of the rates of its places, all arguments checked."""
     web = World(takes)
-    ask_at_most(web, 5)
-    ask_linked(web)
+    ask_small(web)
     return (web, rate_sums(web, told_wins(row, web.size)))
 
 
@@ -60,8 +59,7 @@ def same_wins(world, other):
     """Tell whether two linked worlds have the same row of win."""
     if other.size != world.size:
         raise OtherSize(other.size)
-    ask_at_most(world, 5)
-    ask_linked(world)
+    ask_small(world)
     ask_linked(other)
     return win_row(world) == win_row(other)
 
@@ -88,9 +86,7 @@ def far_chance(world, grades, lot, grade):
     """Return the chance to which it tends that some place of the lot has this grade or more."""
     ask_at_most(world, 5)
     told = grades_of(grades, world.size)
-    places = lot_in(mask_of(lot, world.size))
-    if len(places) == 0:
-        raise BadLot(None)
+    places = lot_in(some_mask(lot, world.size))
     if not is_whole(grade):
         raise BadNumber("grade")
     high = mask_of([place for place, own in enumerate(told) if own >= grade], world.size)

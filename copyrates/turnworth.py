@@ -1,7 +1,7 @@
 """The mean worths of all turns of a run from a start."""
 
-from copyrates.kinds import ask_at_most, ask_steady
-from copyrates.linking import ask_linked
+from copyrates.kinds import ask_steady
+from copyrates.linking import ask_linked, ask_small
 from copyrates.masks import lot_in, mask_of
 from copyrates.ratios import lowest
 from copyrates.sayrows import say_parts
@@ -47,8 +47,7 @@ def turn_row(world, parts, mask):
 
 def turns_by_run(world, lot):
     """Return (up, down) of the lot, from the equations between a start and its next ones."""
-    ask_at_most(world, 5)
-    ask_linked(world)
+    ask_small(world)
     ask_steady(world)
     mask = mask_of(lot, world.size)
     if mask == 0 or mask == (1 << world.size) - 1:

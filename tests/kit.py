@@ -289,3 +289,24 @@ def difference_of(f, base, extra):
 def crossing(one, other):
     """Whether neither lot holds the other."""
     return not set(one) <= set(other) and not set(other) <= set(one)
+
+
+def grade_sums(world, rows, gain):
+    """For each of the rows of grades that are not all equal, the mean sum of the gains over the run from it.
+
+    The rows are all that can follow one another; gain(mark, row, after) is what a mark that changes a row brings.
+    """
+    rows = [row for row in rows if len(set(row)) > 1]
+    spots = {row: at for at, row in enumerate(rows)}
+    lines = []
+    for row in rows:
+        told = [0] * (len(rows) + 1)
+        for mark in own(world):
+            after = do(row, [mark])
+            if after != row:
+                told[spots[row]] += rate(world, mark)
+                told[-1] += rate(world, mark) * gain(mark, row, after)
+                if after in spots:
+                    told[spots[after]] -= rate(world, mark)
+        lines.append(told)
+    return dict(zip(rows, solve(lines)))

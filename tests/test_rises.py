@@ -11,7 +11,7 @@ from copyrates.shapes import line
 from copyrates.wins import mean_last, win
 from copyrates.worlds import World, web_of
 from tests.kit import (
-    BIG, NO_WHOLE, Checks, do, fractions, lots, own, pair, rate, rest, ring_takes, solve, start, table
+    BIG, NO_WHOLE, Checks, fractions, grade_sums, lots, pair, rest, ring_takes, start, table
 )
 from tests.test_wins import linked_worlds
 
@@ -20,21 +20,10 @@ SHUT = World([[0, 1, 0], [0, 0, 1], [0, 1, 0]], calls=[[0, 1, 0], [0, 0, 0], [0,
 
 def rises_by_run(world, rows):
     """For each row of grades, of those that can follow one another, the mean sum of the says times the rises by calls."""
-    rows = [row for row in rows if len(set(row)) > 1]
     worth = fractions(says(world))
-    lines = []
-    for row in rows:
-        told = [0] * (len(rows) + 1)
-        for mark in own(world):
-            after = do(row, [mark])
-            if after != row:
-                told[rows.index(row)] += rate(world, mark)
-                if after in rows:
-                    told[rows.index(after)] -= rate(world, mark)
-                if mark[2] == "call":
-                    told[-1] += rate(world, mark) * worth[mark[0]] * (after[mark[0]] - row[mark[0]])
-        lines.append(told)
-    return dict(zip(rows, solve(lines)))
+    return grade_sums(world, rows, lambda mark, row, after: (
+        worth[mark[0]] * (after[mark[0]] - row[mark[0]]) if mark[2] == "call" else 0
+    ))
 
 
 class CallWorth(Checks):

@@ -10,7 +10,7 @@ from copyrates.rules import NaturalRule, Rule
 from copyrates.sayrows import flow, says
 from copyrates.wins import win_row
 from copyrates.worlds import World
-from tests.kit import NO_WHOLE, Checks, fractions, lots, pair, ring_takes, some_linked, table
+from tests.kit import NO_WHOLE, Checks, fractions, lots, pair, ring_takes, some_linked
 
 NO_FRACTION = (True, None, "1", 1.5, (1,), (1, 0), (1, -1), (1, 2, 3), [1, True], (0.5, 1), {0: 1, 1: 1})
 FAR = 10 ** 99

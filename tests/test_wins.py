@@ -11,7 +11,7 @@ from copyrates.shapes import line
 from copyrates.wins import last_chances, mean_last, win, win_row
 from copyrates.worlds import World, web_of
 from tests.kit import (
-    BIG, NO_WHOLE, Checks, do, fractions, head_lots, lots, number_of_places, own, pair, path_web, rate, ring_takes, solve,
+    BIG, NO_WHOLE, Checks, fractions, grade_sums, head_lots, lots, number_of_places, pair, path_web, ring_takes,
     some_linked, some_one_head, start_moves, table, wins_by_run
 )
 
@@ -42,22 +42,11 @@ def one_head_worlds():
 def last_grades(world, grades):
     """The chance of each last grade, by a chain of rows of grades."""
     values = sorted(set(grades))
-    rows = [row for row in product(values, repeat=world.size) if len(set(row)) > 1]
+    rows = list(product(values, repeat=world.size))
     ends = {}
     for value in values:
-        lines = []
-        for row in rows:
-            told = [0] * (len(rows) + 1)
-            for mark in own(world):
-                after = do(row, [mark])
-                if after != row:
-                    told[rows.index(row)] += rate(world, mark)
-                    if after in rows:
-                        told[rows.index(after)] -= rate(world, mark)
-                    elif after[0] == value:
-                        told[-1] += rate(world, mark)
-            lines.append(told)
-        ends[value] = solve(lines)[rows.index(tuple(grades))] if tuple(grades) in rows else int(grades[0] == value)
+        found = grade_sums(world, rows, lambda mark, row, after: int(after == (value,) * world.size))
+        ends[value] = found.get(tuple(grades), int(grades[0] == value))
     return {value: chance for value, chance in ends.items() if chance > 0}
 
 
