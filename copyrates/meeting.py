@@ -21,7 +21,7 @@ def time_parts(world, counted):
 
     The mean number of steps ahead of which they do so is W * parts[pair] / whole.
     """
-    pairs = unlike_pairs(range(world.size))
+    pairs = unlike_pairs(list(range(world.size)))
     whole, tops = solved([row + [1 if pair in counted else 0] for pair, row in zip(pairs, pair_rows(world.takes))])
     return (whole, {pair: row[0] for pair, row in zip(pairs, tops)})
 
@@ -35,7 +35,7 @@ def step_table(world, parts, whole):
 def meetings(world):
     """Return the table of the mean numbers of steps till two walks have met."""
     ask_walked(world)
-    whole, parts = time_parts(world, unlike_pairs(range(world.size)))
+    whole, parts = time_parts(world, unlike_pairs(list(range(world.size))))
     return step_table(world, parts, whole)
 
 
@@ -43,7 +43,7 @@ def meeting_sum(world):
     """Return the sum over all ties of twice the squared say times the take times the time to meet, over W."""
     ask_walked(world)
     worths, say_whole = say_parts(world)
-    whole, parts = time_parts(world, unlike_pairs(range(world.size)))
+    whole, parts = time_parts(world, unlike_pairs(list(range(world.size))))
     total = sum([worths[i] * worths[i] * world.takes[i][j] * parts[(i, j)] for i, j in world.ties()])
     return lowest(2 * total, say_whole * say_whole * whole)
 
@@ -59,7 +59,7 @@ def visits(world, pair):
     """Return the table of the mean numbers of steps ahead of which the walks begun at the pair stand at each pair."""
     ask_walked(world)
     first = pair_of(pair, world.size)
-    pairs = unlike_pairs(range(world.size))
+    pairs = unlike_pairs(list(range(world.size)))
     rows = pair_rows(world.takes)
     # What the pairs get from one another is told by the columns.
     columns = [[row[at] for row in rows] + [1 if own == first else 0] for at, own in enumerate(pairs)]

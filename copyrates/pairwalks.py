@@ -21,12 +21,12 @@ def pair_rates(takes, pair):
 
 def pair_rows(takes):
     """Return the equations of the pairs of unlike places, in their order, for walks that surely meet."""
-    return chain_rows(unlike_pairs(range(len(takes))), lambda pair: pair_rates(takes, pair))
+    return chain_rows(unlike_pairs(list(range(len(takes)))), lambda pair: pair_rates(takes, pair))
 
 
 def pairs_across(size, mask):
     """Return the pairs of a place of the lot with this number and a place outside."""
-    return [(one, other) for one, other in unlike_pairs(range(size)) if (mask >> one) & 1 > (mask >> other) & 1]
+    return [(one, other) for one, other in unlike_pairs(list(range(size))) if (mask >> one) & 1 > (mask >> other) & 1]
 
 
 def pair_table(size, parts, whole):

@@ -12,7 +12,7 @@ from copyrates.solving import solved
 
 def stay_parts(takes):
     """Return (whole, parts): walks begun at a pair have parts[pair][other pair] / whole of W0 visits to another one."""
-    pairs = unlike_pairs(range(len(takes)))
+    pairs = unlike_pairs(list(range(len(takes))))
     rows = pair_rows(takes)
     whole, tops = solved([row + [1 if k == at else 0 for k in range(len(rows))] for at, row in enumerate(rows)])
     return (whole, {pair: {other: part for other, part in zip(pairs, row)} for pair, row in zip(pairs, tops)})
@@ -30,7 +30,7 @@ class Slopes:
         self._whole = whole * say_whole
         self._parts = {
             pair: sum([self._says[i] * world.calls[i][j] * self._stays[(j, i)][pair] for i, j in world.calling()])
-            for pair in unlike_pairs(range(world.size))
+            for pair in unlike_pairs(list(range(world.size)))
         }
         self._table = tuple([self._across(self._parts, mask) for mask in range(1 << world.size)])
 

@@ -117,6 +117,40 @@ def one_thing(function):
     return same
 
 
+def lazy(node):
+    """The word of a call that is iterated on the spot, or None."""
+    if isinstance(node, ast.Call) and isinstance(node.func, ast.Name):
+        return node.func.id if node.func.id in ("range", "zip", "enumerate", "reversed") else None
+    if isinstance(node, ast.Call) and isinstance(node.func, ast.Attribute):
+        return node.func.attr if node.func.attr in ("items", "keys", "values") else None
+    return None
+
+
+def iterated(node, above, word):
+    """Whether the node, which stands directly in the one above, is iterated there, or used as L23 lets it be."""
+    if isinstance(above, (ast.For, ast.comprehension)):
+        return above.iter is node
+    if isinstance(above, ast.Call) and isinstance(above.func, ast.Name) and above.args[:1] == [node]:
+        called = above.func.id
+        if called in ("min", "max"):
+            return len(above.args) == 1
+        if called in ("list", "tuple", "dict", "sorted", "sum", "any", "all", "enumerate", "zip"):
+            return True
+        return (called == "len" and word in ("range", "items")) or (called == "reversed" and word == "range")
+    if isinstance(above, ast.Call) and isinstance(above.func, ast.Attribute):
+        return above.func.attr == "join" and isinstance(above.func.value, ast.Constant)
+    return isinstance(above, ast.Compare) and word in ("range", "keys") and node in above.comparators
+
+
+def kept_uses(function, name):
+    """The places, with what stands above each, where a function reads a name; None unless it is assigned just once."""
+    above = {part: node for node in ast.walk(function) for part in ast.iter_child_nodes(node)}
+    named = [node for node in ast.walk(function) if isinstance(node, ast.Name) and node.id == name]
+    if len([node for node in named if isinstance(node.ctx, ast.Store)]) != 1:
+        return None
+    return [(node, above[node]) for node in named if isinstance(node.ctx, ast.Load)]
+
+
 class Language(unittest.TestCase):
     def test_files(self):
         self.assertLessEqual(len(files()), 100)
@@ -218,6 +252,31 @@ class Language(unittest.TestCase):
                     names = changed(loop.body)
                     for name in walked(loop.iter):
                         self.assertFalse(same.get(name, {name}) & set(names), f"{path.name}:{loop.lineno}")
+
+    def test_iterated_at_once(self):
+        for path, tree in trees():
+            for function in functions(tree):
+                above = {part: node for node in ast.walk(function) for part in ast.iter_child_nodes(node)}
+                for node in [node for node in above if lazy(node)]:
+                    where, parent = f"{path.name}:{node.lineno}", above[node]
+                    if not isinstance(parent, ast.Assign):
+                        self.assertTrue(iterated(node, parent, lazy(node)), where)
+                        continue
+                    # A range alone is kept here; the rules for the others are narrower.
+                    self.assertEqual((lazy(node), len(parent.targets)), ("range", 1), where)
+                    for use, outer in kept_uses(function, parent.targets[0].id):
+                        self.assertTrue(iterated(use, outer, "range") or isinstance(outer, ast.Subscript), where)
+
+    def test_iterated_at_once_is_seen(self):
+        for row, wanted in (
+            ("f(range(3))", False), ("for k in range(3): pass", True), ("return zip(xs, ys)", False),
+            ("[k for k in enumerate(xs)]", True), ("max(range(3), 4)", False), ("g(list(d.items()))", True),
+            ("zip(xs, range(3))", False), ("len(d.values())", False), ("f(d.keys())", False),
+        ):
+            function = ast.parse("def tried(xs, ys, d, f, g):\n    " + row).body[0]
+            above = {part: node for node in ast.walk(function) for part in ast.iter_child_nodes(node)}
+            found = [iterated(node, above[node], lazy(node)) for node in above if lazy(node)]
+            self.assertIs(all(found), wanted, row)
 
     def test_generators(self):
         every = [node.name for path, tree in trees() for node in functions(tree)]
