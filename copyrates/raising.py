@@ -6,7 +6,7 @@ from copyrates.linking import ask_small
 from copyrates.masks import mask_of
 from copyrates.pairwalks import pairs_across
 from copyrates.shapes import line
-from copyrates.worlds import World
+from copyrates.worlds import World, with_entry
 
 
 def raised(world, tie, number):
@@ -14,9 +14,7 @@ def raised(world, tie, number):
     i, j = tie_of(world, tie)
     if not is_whole(number) or number < 1:
         raise BadNumber("number")
-    rows = [list(row) for row in world.calls]
-    rows[i][j] += number
-    return World(world.takes, calls=rows)
+    return World(world.takes, calls=with_entry(world.calls, (i, j), world.calls[i][j] + number))
 
 
 def helps(world, tie, lot):

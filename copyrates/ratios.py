@@ -49,6 +49,21 @@ def above_zero(value, name):
     return told
 
 
+def from_one(value, name):
+    """Return the value as a fraction of 1 or more, or raise BadFraction(name)."""
+    told = fraction_of(value, name)
+    if told[0] < told[1]:
+        raise BadFraction(name)
+    return told
+
+
+def lot_row(value):
+    """Return the value as a list of fractions, one for each lot of 2 to 5 places, or raise BadFraction("row")."""
+    if not is_row(value) or len(value) not in (4, 8, 16, 32):
+        raise BadFraction("row")
+    return [fraction_of(entry, "row") for entry in value]
+
+
 def added(a, b):
     """Return the fraction a + b."""
     top, bottom = fraction_of(a, "a")
@@ -97,3 +112,21 @@ def total_of(rows):
     for entry in rows:
         total = added(total, fraction_of(entry, "rows"))
     return total
+
+
+def greatest_of(told):
+    """Return the greatest one of a row of fractions, which is not empty."""
+    best = told[0]
+    for entry in told:
+        if compare(entry, best) > 0:
+            best = entry
+    return best
+
+
+def least_of(told):
+    """Return the least one of a row of fractions, which is not empty."""
+    best = told[0]
+    for entry in told:
+        if compare(entry, best) < 0:
+            best = entry
+    return best

@@ -1,17 +1,13 @@
 """Webs made from webs: without a place, glued, slowed, from a flow, from a ring."""
 
 from copyrates.errors import BadTable, TooMany
-from copyrates.even import from_rings, table_of, uneven_lot, whole_rows
+from copyrates.even import from_rings, table_of, uneven_lot
 from copyrates.kinds import ask_place, ask_steady
 from copyrates.linking import ask_linked
 from copyrates.oddrows import odds_row, says_row
 from copyrates.ratios import above_zero, lowest, over, times
+from copyrates.wholes import whole_web
 from copyrates.worlds import World
-
-
-def made_whole(takes):
-    """Return the web with these exact takes, a table of fractions, times the least number that makes all whole."""
-    return World(whole_rows(takes)[1])
 
 
 def left_out(world, place):
@@ -27,7 +23,7 @@ def left_out(world, place):
     rows = [[lowest(take * out + row[place] * past, out) for take, past in zip(row, gone)] for row in kept]
     rows = [row[:place] + row[place + 1:] for row in rows]
     # What a place would take from itself by the place that is left out is no tie.
-    return made_whole([row[:at] + [(0, 1)] + row[at + 1:] for at, row in enumerate(rows)])
+    return whole_web([row[:at] + [(0, 1)] + row[at + 1:] for at, row in enumerate(rows)])
 
 
 def glued(world, other, place, other_place):
@@ -56,7 +52,7 @@ def slowed(world, factors):
     ask_linked(world)
     ask_steady(world)
     told = odds_row(factors, world.size)
-    return made_whole([[times(factor, take) for take in row] for factor, row in zip(told, world.takes)])
+    return whole_web([[times(factor, take) for take in row] for factor, row in zip(told, world.takes)])
 
 
 def flow_rows(table):
@@ -77,7 +73,7 @@ def from_flow(table, row):
     """Return the web whose flow is the table and whose says are the row."""
     told = flow_rows(table)
     worths = says_row(row, len(told))
-    web = made_whole([[over(entry, worth) for entry in entries] for worth, entries in zip(worths, told)])
+    web = whole_web([[over(entry, worth) for entry in entries] for worth, entries in zip(worths, told)])
     ask_linked(web)
     return web
 

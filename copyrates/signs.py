@@ -3,10 +3,9 @@
 from math import lcm
 
 from copyrates.differences import difference_at, difference_row
-from copyrates.errors import BadFraction, BadLot
-from copyrates.kinds import is_row
+from copyrates.errors import BadLot
 from copyrates.masks import lot_in, mask_of, some_mask
-from copyrates.ratios import fraction_of, lowest
+from copyrates.ratios import lot_row, lowest
 from copyrates.wins import win_parts
 
 
@@ -23,9 +22,7 @@ def difference(world, base, extra):
 
 def from_row(row):
     """Return for each lot T, but (), the difference of the row by lots at the rest of T by T."""
-    if not is_row(row) or len(row) not in (4, 8, 16, 32):
-        raise BadFraction("row")
-    told = [fraction_of(entry, "row") for entry in row]
+    told = lot_row(row)
     whole = 1
     for top, bottom in told:
         whole = lcm(whole, bottom)

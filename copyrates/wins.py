@@ -8,37 +8,43 @@ from copyrates.kinds import ask_at_most
 from copyrates.linking import heads
 from copyrates.masks import mask_of, masks_within
 from copyrates.ratios import lowest
+from copyrates.worlds import table_sum
 
 
-def start_rates(world, places, mask):
+def start_rates(ups, downs, places, mask):
     """Return a dict from each other start, that marks of the places turn this one into, to the sum of their rates.
 
-    The starts are told by the numbers of their lots.
+    The starts are told by the numbers of their lots. A place copies a grade 1 at the rates in `ups`, a grade 0 at
+    those in `downs`.
     """
     rates = {}
     for i in places:
         held = (mask >> i) & 1
-        for j, take in enumerate(world.takes[i]):
-            copied = (mask >> j) & 1
-            if take > 0 and held != copied:
-                # A call changes a grade 0 alone.
-                rate = take + world.calls[i][j] if copied == 1 else take
+        row = downs[i] if held == 1 else ups[i]
+        for j, rate in enumerate(row):
+            if rate > 0 and held != (mask >> j) & 1:
                 rates[mask ^ (1 << i)] = rates.get(mask ^ (1 << i), 0) + rate
     return rates
 
 
-def head_wins(world, head):
+def head_parts(ups, downs, head):
     """Return (whole, parts) for a head: it comes to grade 1 with the chance parts[mask] / whole.
 
     `mask` is the number of the lot of those of its places that begin with 1. A head looks at nobody else.
     """
-    full = mask_of(head, world.size)
+    full = mask_of(head, len(ups))
     mixed = masks_within(full)[1:-1]
-    whole, tops = exit_parts(mixed, [full], lambda mask: start_rates(world, head, mask))
+    whole, tops = exit_parts(mixed, [full], lambda mask: start_rates(ups, downs, head, mask))
     parts = {0: 0, full: whole}
     for mask, row in zip(mixed, tops):
         parts[mask] = row[0]
     return (whole, parts)
+
+
+def head_wins(world, head):
+    """Return (whole, parts) for a head of the world, as `head_parts` does."""
+    # A call changes a grade 0 alone.
+    return head_parts(table_sum(world.takes, world.calls), world.takes, head)
 
 
 def win_parts(world):

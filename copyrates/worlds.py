@@ -61,6 +61,13 @@ def table_times(table, factor):
     return [[entry * factor for entry in row] for row in table]
 
 
+def with_entry(table, pair, number):
+    """Return the table with the number at the pair (i, j)."""
+    rows = [list(row) for row in table]
+    rows[pair[0]][pair[1]] = number
+    return rows
+
+
 def pairs_above_zero(table):
     """Return the pairs (i, j) with an entry above 0, ascending."""
     return tuple([(i, j) for i, row in enumerate(table) for j, entry in enumerate(row) if entry > 0])

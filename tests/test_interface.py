@@ -67,6 +67,26 @@ FUNCTIONS = {
         "call_sums(takes, row)", "factors_told(takes, row)", "same_wins(world, other)",
         "far_chance(world, grades, lot, grade)",
     ),
+    "rules": (),
+    "naturals": ("natural(world, strength)", "strength_of(world)", "natural_rule(world, strength)"),
+    "independent": (
+        "odds_of(world)", "pair_gap(world, odds, i, j)", "place_gap(world, odds, j)", "fits(world, odds)",
+    ),
+    "byfactors": (
+        "by_factors(world, factors)", "factors_of(world)", "factor_kind(world)", "two_factors(world, v, q)",
+    ),
+    "backwards": ("turned_web(world)", "turned(world)", "backwards_gap(world)"),
+    "sandwich": ("strengths(world)", "between(world, lot)", "border(world, odds, lot)"),
+    "coming": (
+        "needs(world, odds, lot)", "short_lot(world, odds)", "calls_for(world, odds)", "world_for(world, odds)",
+        "least_counting(world)",
+    ),
+    "countalone": ("number_factor(world)", "counting_chance(r, number, size)"),
+    "blockruns": (
+        "check_blocks(blocks, size)", "block_counts(blocks, lot, size)", "rate_up(world, blocks, lot, number)",
+        "rate_down(world, blocks, lot, number)", "runs_alone(world, blocks)", "uneven_starts(world, blocks)",
+        "flattened(world, blocks)",
+    ),
 }
 CLASSES = {
     ("worlds", "World"): (
