@@ -4,7 +4,7 @@ A row of whole numbers by lots, at the index of each lot's number, stands for ch
 """
 
 from copyrates.kinds import ask_number
-from copyrates.masks import lot_in, some_mask
+from copyrates.masks import high_mask, lot_in, some_mask
 from copyrates.ratios import lowest, times, total_of
 
 # The least number that all numbers of places of a world divide.
@@ -49,10 +49,7 @@ def greatest_chances(whole, meets, grades):
     found = []
     above = 0
     for grade in sorted(set(grades))[::-1]:
-        mask = 0
-        for place, own in enumerate(grades):
-            if own >= grade:
-                mask = mask | (1 << place)
+        mask = high_mask(grades, grade)
         if meets[mask] > above:
             found.append((grade, lowest(meets[mask] - above, whole)))
         above = meets[mask]

@@ -24,18 +24,38 @@ def ask_number(value, name, low, high):
         raise BadNumber(name)
 
 
+def ask_whole(value, name):
+    """Raise BadNumber(name) unless the value is a whole number."""
+    if not is_whole(value):
+        raise BadNumber(name)
+
+
+def ask_from(value, name, low):
+    """Raise BadNumber(name) unless the value is a whole number, `low` or more."""
+    if not is_whole(value) or value < low:
+        raise BadNumber(name)
+
+
 def ask_place(value, size):
     """Raise BadPlace(value) unless the value is a place below size."""
     if not is_between(value, 0, size - 1):
         raise BadPlace(value)
 
 
-def tie_of(world, value):
-    """Return the value as a tie of the world, a tuple, or raise BadTie(value)."""
+def tie_places(value, size):
+    """Return the value as a pair of unlike places, a tuple, or raise BadTie(value)."""
     if not is_row(value) or len(value) != 2:
         raise BadTie(value)
     i, j = value
-    if not is_between(i, 0, world.size - 1) or not is_between(j, 0, world.size - 1) or world.takes[i][j] == 0:
+    if not is_between(i, 0, size - 1) or not is_between(j, 0, size - 1) or i == j:
+        raise BadTie(value)
+    return (i, j)
+
+
+def tie_of(world, value):
+    """Return the value as a tie of the world, a tuple, or raise BadTie(value)."""
+    i, j = tie_places(value, world.size)
+    if world.takes[i][j] == 0:
         raise BadTie(value)
     return (i, j)
 

@@ -34,10 +34,15 @@ def masks_within(mask):
     return [number for number in range(mask + 1) if number & mask == number]
 
 
+def high_mask(grades, grade):
+    """Return the number of the lot of all places with this grade or more."""
+    mask = 0
+    for place, own in enumerate(grades):
+        if own >= grade:
+            mask = mask | (1 << place)
+    return mask
+
+
 def mask_above_zero(row):
     """Return the number of the lot of all indices whose entry is above 0."""
-    mask = 0
-    for at, entry in enumerate(row):
-        if entry > 0:
-            mask = mask | (1 << at)
-    return mask
+    return high_mask(row, 1)

@@ -1,7 +1,6 @@
 """Calls made greater, and which starts they help."""
 
-from copyrates.errors import BadNumber
-from copyrates.kinds import is_whole, tie_of
+from copyrates.kinds import ask_from, tie_of
 from copyrates.linking import ask_small
 from copyrates.masks import mask_of
 from copyrates.pairwalks import pairs_across
@@ -12,8 +11,7 @@ from copyrates.worlds import World, with_entry
 def raised(world, tie, number):
     """Return the world in which the call on the tie is greater by the number."""
     i, j = tie_of(world, tie)
-    if not is_whole(number) or number < 1:
-        raise BadNumber("number")
+    ask_from(number, "number", 1)
     return World(world.takes, calls=with_entry(world.calls, (i, j), world.calls[i][j] + number))
 
 

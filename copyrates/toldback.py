@@ -2,11 +2,11 @@
 
 from copyrates.doing import grades_of
 from copyrates.endings import end_chances
-from copyrates.errors import BadFraction, BadNumber, OtherSize
+from copyrates.errors import BadFraction, OtherSize
 from copyrates.helds import headed
-from copyrates.kinds import ask_at_most, is_row, is_whole
+from copyrates.kinds import ask_at_most, ask_whole, is_row
 from copyrates.linking import ask_linked, ask_small, heads
-from copyrates.masks import lot_in, mask_of, some_mask
+from copyrates.masks import high_mask, lot_in, mask_of, some_mask
 from copyrates.ratios import added, fraction_of, less, lowest, over, times, total_of
 from copyrates.wins import head_wins, win_row
 from copyrates.worlds import World
@@ -87,9 +87,8 @@ def far_chance(world, grades, lot, grade):
     ask_at_most(world, 5)
     told = grades_of(grades, world.size)
     places = lot_in(some_mask(lot, world.size))
-    if not is_whole(grade):
-        raise BadNumber("grade")
-    high = mask_of([place for place, own in enumerate(told) if own >= grade], world.size)
+    ask_whole(grade, "grade")
+    high = high_mask(told, grade)
     misses = [head_miss(world, head, high) for head in heads(world)]
     missing = (0, 1)
     for ends, chance in head_ends(world, places):

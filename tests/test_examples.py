@@ -37,7 +37,7 @@ class Examples(unittest.TestCase):
                 self.assertEqual(outcome(lines), wanted)
 
     def test_number_of_examples(self):
-        self.assertEqual(len(examples()), 28)
+        self.assertEqual(len(examples()), 36)
 
 
 if __name__ == "__main__":

@@ -87,6 +87,24 @@ FUNCTIONS = {
         "rate_down(world, blocks, lot, number)", "runs_alone(world, blocks)", "uneven_starts(world, blocks)",
         "flattened(world, blocks)",
     ),
+    "gradecounts": (
+        "grade_rate(world, blocks, row, number, g, h)", "grades_alone(world, blocks)", "uneven_rows(world, blocks)",
+    ),
+    "onefactor": (
+        "one_factor(world, factor)", "factor_of(world)", "win_at(world, factor, lot)",
+        "tipping(world, lot, *, parts=16)", "paces(world)", "pace_odds(pace, factor, lots)",
+    ),
+    "farends": ("strong_end(world)", "weak_end(world)", "verdict_near_one(world)"),
+    "notes": (
+        "win_ends(notes, lot)", "mean_ends(notes, grades)", "size_ends(notes)", "surely(notes, lot, chance)",
+        "perhaps(notes, lot, chance)", "lit_ends(notes, lot, holders)", "rules_around(notes)",
+    ),
+    "gains": (
+        "gain(world, other, lot)", "visits_of(world, lot)", "tie_worth(world, tie, lot)", "best_tie(world, lot)",
+    ),
+    "desks": (),
+    "trials": ("tried(desk, deeds, question)", "step_mean(world, grades, grade)"),
+    "listing": ("rows_text(row)", "world_text(world)", "world_from(text, size)"),
 }
 CLASSES = {
     ("worlds", "World"): (
@@ -111,6 +129,20 @@ CLASSES = {
         ("__init__", "__call__", "chance", "sized", "mean_jury", "share", "mean", "last_chances", "__eq__"),
     ),
     ("rules", "NaturalRule"): ("(says, strength)", {}, ("__init__",)),
+    ("notes", "Notes"): (
+        "(takes, low, high)",
+        {"settled": property},
+        ("__init__", "least", "most", "agrees", "narrow", "seen", "__contains__", "__eq__"),
+    ),
+    ("desks", "Desk"): (
+        "(world, grades, *, held=())",
+        {"rates": property, "now": property, "grades": property, "held": property, "run": property},
+        (
+            "__init__", "mark", "set_take", "set_call", "hold", "free", "set_grades", "back", "began", "done", "last",
+            "at_least", "back_lots", "twin", "__iter__", "__len__",
+        ),
+    ),
+    ("trials", "Trial"): ("(desk)", {}, ("__init__", "__enter__", "__exit__")),
 }
 
 
@@ -139,6 +171,7 @@ class Interface(unittest.TestCase):
     def test_arguments_of_methods(self):
         world, run, slopes = module("worlds").World, module("runtables").Run, module("slopes").Slopes
         jury, rule = module("juries").Jury, module("rules").Rule
+        notes, desk = module("notes").Notes, module("desks").Desk
         for method, text in (
             (world.steady_of, "(takes)"), (world.rate, "(self, i, j)"), (run.from_text, "(text, size)"),
             (run.word_of, "(mark)"), (run.back, "(self, lot)"), (run.sources, "(self, place)"),
@@ -149,6 +182,13 @@ class Interface(unittest.TestCase):
             (jury.share, "(self, place)"), (jury.__call__, "(self, grades)"), (rule.__call__, "(self, lot)"),
             (rule.chance, "(self, lot)"), (rule.sized, "(self, number)"), (rule.mean_jury, "(self)"),
             (rule.share, "(self, place)"), (rule.mean, "(self, grades)"), (rule.last_chances, "(self, grades)"),
+            (notes.least, "(self)"), (notes.most, "(self)"), (notes.agrees, "(self, world)"),
+            (notes.narrow, "(self, tie, low, high)"), (notes.seen, "(self, tie, number)"),
+            (desk.mark, "(self, i, j, word)"), (desk.set_take, "(self, tie, number)"),
+            (desk.set_call, "(self, tie, number)"), (desk.hold, "(self, place)"), (desk.free, "(self, place)"),
+            (desk.set_grades, "(self, grades)"), (desk.back, "(self)"), (desk.began, "(self)"), (desk.done, "(self)"),
+            (desk.last, "(self)"), (desk.at_least, "(self, grade)"), (desk.back_lots, "(self, lot)"),
+            (desk.twin, "(self)"),
         ):
             self.assertEqual(str(inspect.signature(method)), text)
 
