@@ -198,6 +198,12 @@ class Come(Checks):
         self.assertIsNone(world_for(STEP, [(2 * FAR - 1, FAR)] * 3))
         self.same(calls_for(STEP, [2, 2, 2])[1][0], (0, 1))
 
+    def test_one_lot_that_is_short(self):
+        # In a web of two places just one of the two lots can be short.
+        for takes, lot in (([[0, 3], [1, 0]], (0,)), ([[0, 1], [3, 0]], (1,))):
+            self.same(short_lot(World(takes), [1, 1]), lot)
+            self.assertIsNone(short_lot(World(takes), [2, 2]))
+
     def test_great_numbers(self):
         draw = random.Random(7)
         web = World(table(6, lambda i, j: BIG - 6 * i - j))

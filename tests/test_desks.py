@@ -381,6 +381,10 @@ class Refused(Checks):
         for grade in NO_WHOLE:
             self.check("BadNumber", "grade", desk.at_least, grade)
         self.same(desk.back(), ("mark", 1, 0, "take"))
+        desk.hold(1)
+        desk.hold(0)
+        for place in (True, False, 1.0, "1"):
+            self.check("BadPlace", place, desk.free, place)
 
     def test_call_of_a_tie_as_set(self):
         # (2, 0) is no tie of the world now, but one of the world as set.

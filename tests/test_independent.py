@@ -140,6 +140,18 @@ class Gaps(Checks):
                 found.add(own is not None and odds == own)
         self.assertEqual(found, {True, False})
 
+    def test_one_kind_of_gaps_alone(self):
+        takes = table(3, lambda i, j: 1)
+        # All place gaps are 0, but not the pair gap of 0 and 1; then all pair gaps are, but not the place gap of 0.
+        for calls in ([[0, 2, 1], [2, 0, 1], [0, 0, 0]], [[0, 2, 1], [0, 0, 1], [1, 1, 0]]):
+            world = World(takes, calls=calls)
+            self.assertIs(fits(world, [1, 1, 1]), False)
+            self.assertIsNone(odds_of(world))
+        world = World(takes, calls=[[0, 2, 1], [2, 0, 1], [0, 0, 0]])
+        self.same([place_gap(world, [1, 1, 1], j) for j in range(3)], [(0, 1)] * 3)
+        world = World(takes, calls=[[0, 2, 1], [0, 0, 1], [1, 1, 0]])
+        self.same([pair_gap(world, [1, 1, 1], i, j) for i, j in ((0, 1), (0, 2), (1, 2))], [(0, 1)] * 3)
+
     def test_gaps_of_a_steady_world(self):
         # Calls of 0 on a web: no odds fit, whatever the gaps.
         for web in odd_webs((2, 3)):
@@ -182,6 +194,7 @@ class Refused(Checks):
     def test_places(self):
         for place in (-1, 3, True, None, "0", (0,)):
             self.refused("BadPlace", place, pair_gap, TRIANGLE, [1, 1, 1], place, place)
+            self.refused("BadPlace", place, pair_gap, TRIANGLE, [1, 1, 1], place, 0)
             self.refused("BadPlace", place, pair_gap, TRIANGLE, [1, 1, 1], 0, place)
             self.refused("BadPlace", place, place_gap, TRIANGLE, [1, 1, 1], place)
         self.refused("BadPlace", 2, pair_gap, TRIANGLE, [1, 1, 1], 2, 2)

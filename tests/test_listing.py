@@ -102,6 +102,7 @@ class Worlds(Checks):
             "0 <- 1: take x, call 0", "0 <- 1: take 1, call 0,", "0: <- 1: take 1, call 0", "0, <- 1: take 1, call 0",
             "0 <- 1: take 1, call 0\r", "0 <- 1: take 1, call 0\t", "0\t<- 1: take 1, call 0", "0 <- 1: take \u0661, call 0",
             "0 <- 1: take \u00b2, call 0", "0 <- 1:: take 1, call 0", "0 <- 1: take 1, call 0 0", "1<-0: take 1, call 0",
+            "0 <- 1: take None, call 0", "0 <- 1: take 1, call None", "None <- 1: take 1, call 0", "0 <- None: take 1, call 0",
             "0 <- 1: take 1,0, call 0", "0 <- 1: take , call 0", "0 <- : take 1, call 0", "<- 0 1: take 1, call 0",
         ):
             if line:

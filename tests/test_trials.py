@@ -157,7 +157,7 @@ class Tried(Checks):
             self.refused_and_back("BadNumber", "deed", desk, deeds, None)
         for deed in (None, 3, "hold", (), ("hold",), ("hold", 0, 1), ("free",), ("mark", 0, 1), ("mark", (0, 1), "take"),
                      ("take", (0, 1)), ("take", 0, 1, 5), ("call", (0, 1), 3, 4), ("grades",), ("grades", 1, 2, 3),
-                     ("keep", 0), ("", 0), (None, 0), (["hold"], 0), (1, 2), ("hold ", 0), {"hold": 0}, ("Hold", 0)):
+                     ("keep", 0), ("keep",), ("", 0), (None, 0), (["hold"], 0), (1, 2), ("hold ", 0), {"hold": 0}, ("Hold", 0)):
             self.refused_and_back("BadNumber", "deed", desk, [deed], None)
             self.refused_and_back("BadNumber", "deed", desk, [("hold", 0), deed, ("hold", 7)], None)
 
