@@ -36,6 +36,14 @@ def source_masks(size, marks):
     return masks
 
 
+def sources_lot(masks, lot):
+    """Return the lot of the sources of all places of the lot, by what `source_masks` returns, or raise BadLot."""
+    mask = 0
+    for place in lot_in(mask_of(lot, len(masks))):
+        mask = mask | masks[place]
+    return lot_in(mask)
+
+
 def step_mask(mark, mask):
     """Return the number of a lot, passed by its number, stepped back by the mark."""
     i, j, word = mark
@@ -90,10 +98,7 @@ class Run:
 
     def back(self, lot):
         """Return the lot to which the marks step the lot back."""
-        mask = 0
-        for place in lot_in(mask_of(lot, self.size)):
-            mask = mask | self._masks[place]
-        return lot_in(mask)
+        return sources_lot(self._masks, lot)
 
     def sources(self, place):
         """Return the lot of the sources of the place."""
@@ -129,7 +134,8 @@ class Run:
         return Run(self.size, self.marks + other.marks)
 
     def __and__(self, other):
-        return self.back(other)
+        # Not by self.back: a desk has a method of that name that changes the desk, and an operator calls none such.
+        return sources_lot(self._masks, other)
 
     def __eq__(self, other):
         return isinstance(other, Run) and self.size == other.size and self._masks == other._masks

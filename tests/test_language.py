@@ -1,4 +1,5 @@
-"""Those rules of the language subset that a test can see: L1 to L3, L7, L8, L10, L12, L14 to L17, L20, L23, L25, L27.
+"""Those rules of the language subset that a test can see: L1 to L3, L5, L7, L8, L10, L12, L14 to L17, L20, L23, L25,
+L27, L28.
 
 The test reads the files of the package. It finds common slips; it does not prove that every rule is kept.
 """
@@ -33,6 +34,7 @@ splitlines startswith strip update upper values zfill bit_length add discard
 BARRED = re.compile(r"\b(register|mro|elements|open|input|law|version_info|type|typing|enum|compile|eval|exec|globals"
                     r"|locals|vars|dir|id|os|sys|_wall\w*)\b|dataclass|overload|contextmanager")
 CHANGING = set("append clear extend insert pop remove reverse setdefault update sort".split())
+LOUD = ("__init__", "__enter__", "__exit__", "__call__", "__setitem__")
 NODES = (
     ast.Global, ast.AsyncFunctionDef, ast.AsyncFor, ast.AsyncWith, ast.Await, ast.Div, ast.MatMult, ast.GeneratorExp,
     ast.SetComp,
@@ -149,6 +151,91 @@ def kept_uses(function, name):
     if len([node for node in named if isinstance(node.ctx, ast.Store)]) != 1:
         return None
     return [(node, above[node]) for node in named if isinstance(node.ctx, ast.Load)]
+
+
+def is_property(function):
+    return "property" in [ast.unparse(mark) for mark in function.decorator_list]
+
+
+def is_quiet(method):
+    """Whether a method of a class may change nothing: an operator, a property, `__eq__`, `__len__`, `__iter__` .."""
+    if method.name in LOUD or (method.name.startswith("__i") and method.name not in ("__iter__", "__invert__")):
+        return False
+    return is_property(method) or (method.name.startswith("__") and method.name.endswith("__"))
+
+
+def known_by_name(parts):
+    """What the package may run for a call of a name, for a call off an object, and for an attribute that is read."""
+    plain, methods, read = {}, {}, {}
+    for tree in parts:
+        for node in tree.body:
+            if isinstance(node, ast.FunctionDef):
+                plain.setdefault(node.name, []).append(node)
+            for method in node.body if isinstance(node, ast.ClassDef) else []:
+                if isinstance(method, ast.FunctionDef):
+                    (read if is_property(method) else methods).setdefault(method.name, []).append(method)
+                    if method.name == "__init__":
+                        plain.setdefault(node.name, []).append(method)
+    return plain, methods, read
+
+
+def leads_to(function, known):
+    """The functions and methods that a function may run, each method told by its name alone, not by its class."""
+    plain, methods, read = known
+    found = []
+    for node in ast.walk(function):
+        if isinstance(node, ast.Call) and isinstance(node.func, ast.Name):
+            found.extend(plain.get(node.func.id, []))
+        elif isinstance(node, ast.Call) and isinstance(node.func, ast.Attribute):
+            found.extend(methods.get(node.func.attr, []))
+        elif isinstance(node, ast.Attribute) and isinstance(node.ctx, ast.Load):
+            found.extend(read.get(node.attr, []))
+    return found
+
+
+def is_new(node):
+    """Whether an expression creates a list or dict."""
+    if isinstance(node, ast.Call):
+        return ast.unparse(node.func) in ("list", "dict", "sorted", "set")
+    return isinstance(node, (ast.List, ast.Dict, ast.ListComp, ast.DictComp))
+
+
+def own_things(function):
+    """The local variables that are only ever assigned a list or dict that the function creates."""
+    given = {node.arg: [False] for node in ast.walk(function) if isinstance(node, ast.arg)}
+    for node in ast.walk(function):
+        if isinstance(node, ast.Assign):
+            for name in [target.id for target in node.targets if isinstance(target, ast.Name)]:
+                given.setdefault(name, []).append(is_new(node.value))
+    return {name for name, made in given.items() if all(made)}
+
+
+def meddles(function):
+    """Whether a function changes what it did not create, or calls what it is passed or holds."""
+    for node in ast.walk(function):
+        if isinstance(node, ast.Attribute) and not isinstance(node.ctx, ast.Load):
+            # What an `__init__` gives to its own object is new.
+            if function.name != "__init__" or ast.unparse(node.value) != function.args.args[0].arg:
+                return True
+        if isinstance(node, ast.Call) and isinstance(node.func, ast.Name) and node.func.id in bound(function):
+            return True
+    return bool(set(changed(function.body)) - own_things(function))
+
+
+def loud_quiet_ones(parts):
+    """The quiet methods of the package, by class, that lead to a function or method that meddles, with its name."""
+    known = known_by_name(parts)
+    found = []
+    for node in [node for tree in parts for node in tree.body if isinstance(node, ast.ClassDef)]:
+        for method in [method for method in node.body if isinstance(method, ast.FunctionDef) and is_quiet(method)]:
+            reached, at = [method], 0
+            while at < len(reached):
+                for other in leads_to(reached[at], known):
+                    if other not in reached:
+                        reached.append(other)
+                at += 1
+            found.extend((node.name, method.name, function.name) for function in reached if meddles(function))
+    return found
 
 
 class Language(unittest.TestCase):
@@ -277,6 +364,34 @@ class Language(unittest.TestCase):
             above = {part: node for node in ast.walk(function) for part in ast.iter_child_nodes(node)}
             found = [iterated(node, above[node], lazy(node)) for node in above if lazy(node)]
             self.assertIs(all(found), wanted, row)
+
+    def test_operators_and_properties_change_nothing(self):
+        self.assertEqual(loud_quiet_ones([tree for path, tree in trees()]), [])
+
+    def test_operators_and_properties_that_change_are_seen(self):
+        desk = "class Desk:\n    def back(self):\n        self.deeds = self.deeds[:-1]\n"
+        for head, row, wanted in (
+            ("def __and__(self, other):", "return self.back(other)", ["back"]),
+            ("def __and__(self, other):", "return told(self, other)", []),
+            ("def __and__(self, other):", "return told(back, other)", []),
+            ("def __len__(self):", "return len(through(self))", ["back"]),
+            ("def __iter__(self):", "return iter(self.rows)", []),
+            ("def __iter__(self):", "return iter(self.back())", ["back"]),
+            ("def __eq__(self, other):", "return grown(self.rows) == other", ["grown"]),
+            ("def __contains__(self, x):", "return len(made(x)) > 0", []),
+            ("def __contains__(self, x):", "return x(self)", ["__contains__"]),
+            ("def __add__(self, other):", "return Desk().top", ["top"]),
+            ("def __iadd__(self, other):", "return self.back()", []),
+            ("@property\n    def many(self):", "return self.back()", ["back"]),
+            ("def many(self):", "return self.back()", []),
+        ):
+            text = desk + f"class Run:\n    {head}\n        {row}\n" + (
+                "class Low:\n    @property\n    def top(self):\n        self.n = 1\n" if "top" in row else "")
+            text += ("def told(run, lot):\n    return lot\ndef through(run):\n    return run.back()\n"
+                     "def grown(rows):\n    rows.append(1)\n    return rows\n"
+                     "def made(x):\n    rows = [x]\n    rows.append(x)\n    return rows\n")
+            found = loud_quiet_ones([ast.parse(text)])
+            self.assertEqual([name for owner, method, name in found if owner == "Run"], wanted, (head, row))
 
     def test_generators(self):
         every = [node.name for path, tree in trees() for node in functions(tree)]
